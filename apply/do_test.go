@@ -1,0 +1,288 @@
+package apply
+
+import (
+	"testing"
+
+	"tendril/api"
+	"tendril/graph"
+)
+
+// A deed is an operation, what is done with a graph, and what it comes to.
+type deed struct {
+	o    api.Op
+	does func(g *api.Graph)
+	r    api.Result
+}
+
+func stays(*api.Graph) {}
+
+// P11.1, with no error, on mixed: each kind.
+func deeds() []deed {
+	return []deed{
+		{api.Op{Kind: api.AddO}, func(g *api.Graph) { g.Nodes, g.NextNode = append(g.Nodes, node(6)), 7 }, api.Result{Id: 6}},
+		{api.Op{Kind: api.LinkO, A: 1, B: 4}, func(g *api.Graph) { g.Edges, g.NextEdge = append(g.Edges, edges(8, 1, 4)...), 9 }, api.Result{Id: 8}},
+		{api.Op{Kind: api.LinkO, A: 4, B: 1}, func(g *api.Graph) { g.Edges, g.NextEdge = append(g.Edges, edges(8, 4, 1)...), 9 }, api.Result{Id: 8}},
+		{api.Op{Kind: api.LinkO, A: 2, B: 2}, func(g *api.Graph) { g.Edges, g.NextEdge = append(g.Edges, edges(8, 2, 2)...), 9 }, api.Result{Id: 8}},
+		{api.Op{Kind: api.CutO, A: 1}, func(g *api.Graph) { g.Edges = g.Edges[1:] }, api.Result{}},
+		{api.Op{Kind: api.CutO, A: 4}, func(g *api.Graph) { g.Edges = edges(1, 1, 2, 2, 2, 1, 5, 4, 1, 6, 1, 2, 7, 4, 2) }, api.Result{}},
+		{api.Op{Kind: api.CutO, A: 7}, func(g *api.Graph) { g.Edges = g.Edges[:5] }, api.Result{}},
+		{api.Op{Kind: api.SetO, A: 1, K: 0, V: 4}, func(g *api.Graph) { g.Nodes[0].Pairs = pairs(-3, 5, 0, 4, 9, -1) }, api.Result{}},
+		{api.Op{Kind: api.SetO, A: 1, K: 9, V: -1}, stays, api.Result{}},
+		{api.Op{Kind: api.SetO, A: 2}, func(g *api.Graph) { g.Nodes[1].Pairs = pairs(0, 0) }, api.Result{}},
+		{api.Op{Kind: api.SetO, A: 2, K: 4, V: 1}, func(g *api.Graph) { g.Nodes[1].Pairs = pairs(4, 1) }, api.Result{}},
+		{api.Op{Kind: api.SetO, A: 4, K: greatest, V: least}, func(g *api.Graph) { g.Nodes[2].Pairs = pairs(least, greatest, 9, 7, greatest, least) }, api.Result{}},
+		{api.Op{Kind: api.SetO, A: 4, K: least, V: least}, func(g *api.Graph) { g.Nodes[2].Pairs = pairs(least, least, 9, 7) }, api.Result{}},
+		{api.Op{Kind: api.DelO, A: 1, K: -3}, func(g *api.Graph) { g.Nodes[0].Pairs = pairs(0, 0, 9, -1) }, api.Result{}},
+		{api.Op{Kind: api.DelO, A: 1}, func(g *api.Graph) { g.Nodes[0].Pairs = pairs(-3, 5, 9, -1) }, api.Result{}},
+		{api.Op{Kind: api.DelO, A: 4, K: least}, func(g *api.Graph) { g.Nodes[2].Pairs = pairs(9, 7) }, api.Result{}},
+		{api.Op{Kind: api.GetO, A: 1}, stays, api.Result{Pairs: pairs(-3, 5, 0, 0, 9, -1)}},
+		{api.Op{Kind: api.GetO, A: 2}, stays, api.Result{}},
+		{api.Op{Kind: api.GetO, A: 4}, stays, api.Result{Pairs: pairs(least, greatest, 9, 7)}},
+		{api.Op{Kind: api.NearO, A: 1}, stays, api.Result{Out: ends(1, 2, 4, 1, 6, 2), In: ends(2, 2, 4, 1, 5, 4)}},
+		{api.Op{Kind: api.NearO, A: 2}, stays, api.Result{Out: ends(2, 1), In: ends(1, 1, 6, 1, 7, 4)}},
+		{api.Op{Kind: api.NearO, A: 4}, stays, api.Result{Out: ends(5, 1, 7, 2)}},
+		{api.Op{Kind: api.DropO, A: 1}, func(g *api.Graph) { g.Nodes, g.Edges = g.Nodes[1:], edges(7, 4, 2) }, api.Result{}},
+		{api.Op{Kind: api.DropO, A: 2}, func(g *api.Graph) {
+			g.Nodes, g.Edges = []api.Node{g.Nodes[0], g.Nodes[2]}, edges(4, 1, 1, 5, 4, 1)
+		}, api.Result{}},
+		{api.Op{Kind: api.FuseO, A: 1, B: 4}, func(g *api.Graph) {
+			g.Nodes, g.Edges = []api.Node{node(1, least, greatest, -3, 5, 0, 0, 9, -1), node(2)}, edges(1, 1, 2, 2, 2, 1, 4, 1, 1, 5, 1, 1, 6, 1, 2, 7, 1, 2)
+		}, api.Result{}},
+		{api.Op{Kind: api.FuseO, A: 4, B: 1}, func(g *api.Graph) {
+			g.Nodes, g.Edges = []api.Node{node(2), node(4, least, greatest, -3, 5, 0, 0, 9, 7)}, edges(1, 4, 2, 2, 2, 4, 4, 4, 4, 5, 4, 4, 6, 4, 2, 7, 4, 2)
+		}, api.Result{}},
+		{api.Op{Kind: api.FuseO, A: 2, B: 1}, func(g *api.Graph) {
+			g.Nodes, g.Edges = []api.Node{node(2, -3, 5, 0, 0, 9, -1), node(4, least, greatest, 9, 7)}, edges(1, 2, 2, 2, 2, 2, 4, 2, 2, 5, 4, 2, 6, 2, 2, 7, 4, 2)
+		}, api.Result{}},
+	}
+}
+
+// A failure is a graph, an operation that has an error on it, and that.
+type failure struct {
+	g api.Graph
+	o api.Op
+	e api.Errno
+}
+
+// P11.1, with an error: each kind that can have one.
+func failures() []failure {
+	l := []failure{
+		{usedUp(), api.Op{Kind: api.AddO}, api.ErrIds},
+		{usedUp(), api.Op{Kind: api.LinkO, A: 1, B: 2}, api.ErrIds},
+		{usedUp(), api.Op{Kind: api.LinkO, A: 4, B: 4}, api.ErrIds},
+		{usedUp(), api.Op{Kind: api.LinkO, A: 4, B: 3}, api.ErrNone},
+		{api.Graph{NextNode: 7, NextEdge: 9}, api.Op{Kind: api.AddO}, api.ErrIds},
+		{api.Graph{NextNode: 7, NextEdge: 9}, api.Op{Kind: api.LinkO, A: 1, B: 1}, api.ErrNone},
+		{mixed(), api.Op{Kind: api.DelO, A: 1, K: 5}, api.ErrNone},
+		{mixed(), api.Op{Kind: api.DelO, A: 1, K: least}, api.ErrNone},
+		{mixed(), api.Op{Kind: api.DelO, A: 2, K: 0}, api.ErrNone},
+		{mixed(), api.Op{Kind: api.DelO, A: 4, K: greatest}, api.ErrNone},
+		{mixed(), api.Op{Kind: api.CutO, A: 8}, api.ErrNone},
+		{mixed(), api.Op{Kind: api.FuseO, A: 4, B: 4}, api.ErrSelf},
+		{mixed(), api.Op{Kind: api.FuseO, A: 3, B: 3}, api.ErrSelf},
+		{graph.New(), api.Op{Kind: api.FuseO}, api.ErrSelf},
+	}
+	for _, g := range []api.Graph{mixed(), usedUp(), graph.New()} {
+		for _, n := range nobodys {
+			if n != 5 { // an edge's number, but no node's
+				l = append(l, failure{g, api.Op{Kind: api.CutO, A: n}, api.ErrNone})
+			}
+			for _, o := range []api.Op{
+				{Kind: api.LinkO, A: n, B: 1}, {Kind: api.LinkO, A: 1, B: n}, {Kind: api.LinkO, A: n, B: n},
+				{Kind: api.SetO, A: n, K: 9, V: 1}, {Kind: api.DelO, A: n, K: 9}, {Kind: api.GetO, A: n}, {Kind: api.NearO, A: n}, {Kind: api.DropO, A: n},
+				{Kind: api.FuseO, A: n, B: 1}, {Kind: api.FuseO, A: 1, B: n},
+			} {
+				l = append(l, failure{g, o, api.ErrNone})
+			}
+		}
+	}
+	return l
+}
+
+// The promises are asked of graphs that may be.
+func TestGraphsHereMayBe(t *testing.T) {
+	for _, g := range []api.Graph{mixed(), usedUp(), graph.New(), {NextNode: 7, NextEdge: 9}} {
+		if e := graph.Check(mixedCfg(), g); e != api.OK {
+			t.Errorf("Check of %v tells %d", g, e)
+		}
+	}
+}
+
+// P11.1
+func TestDo(t *testing.T) {
+	for _, x := range deeds() {
+		g, r := Do(mixedCfg(), mixed(), x.o)
+		wantGraph(t, text("Do ", x.o), g, with(mixed(), x.does))
+		wantResult(t, text("Do ", x.o), r, x.r)
+	}
+}
+
+// P11.1: the graph is g, and the result is zero but for Err.
+func TestDoWithAnError(t *testing.T) {
+	for _, x := range failures() {
+		g, r := Do(mixedCfg(), x.g, x.o)
+		wantGraph(t, text("Do ", x.o), g, x.g)
+		wantResult(t, text("Do ", x.o), r, api.Result{Err: x.e})
+	}
+}
+
+// P11.1: the numbers that come next are given as long as there are some.
+func TestDoUpToTheLastNumber(t *testing.T) {
+	c := api.Cfg{Nodes: 2, Edges: 2, Props: 1, Ids: 2, EdgeIds: 2}
+	g := graph.New()
+	for _, x := range []struct {
+		o api.Op
+		r api.Result
+	}{
+		{api.Op{Kind: api.AddO}, api.Result{Id: 1}}, {api.Op{Kind: api.AddO}, api.Result{Id: 2}}, {api.Op{Kind: api.AddO}, api.Result{Err: api.ErrIds}},
+		{api.Op{Kind: api.LinkO, A: 2, B: 1}, api.Result{Id: 1}}, {api.Op{Kind: api.LinkO, A: 2, B: 2}, api.Result{Id: 2}}, {api.Op{Kind: api.LinkO, A: 2, B: 1}, api.Result{Err: api.ErrIds}},
+		{api.Op{Kind: api.CutO, A: 1}, api.Result{}}, {api.Op{Kind: api.DropO, A: 1}, api.Result{}},
+		{api.Op{Kind: api.AddO}, api.Result{Err: api.ErrIds}}, {api.Op{Kind: api.LinkO, A: 2, B: 2}, api.Result{Err: api.ErrIds}},
+	} {
+		h, r := Do(c, g, x.o)
+		wantResult(t, text("Do ", x.o, " of ", g), r, x.r)
+		g = h
+	}
+	wantGraph(t, "behind all", g, api.Graph{Nodes: []api.Node{node(2)}, Edges: edges(2, 2, 2), NextNode: 3, NextEdge: 3})
+}
+
+// P11.1: another kind is ErrArg, whatever stands beside it.
+func TestDoOfNoKind(t *testing.T) {
+	for _, g := range []api.Graph{mixed(), usedUp(), graph.New()} {
+		for _, kind := range noKinds {
+			for _, o := range []api.Op{{Kind: kind}, {Kind: kind, A: 1, B: 2, K: 9, V: 4}, {Kind: kind, A: 3, B: 3, K: least, V: greatest}} {
+				h, r := Do(mixedCfg(), g, o)
+				wantGraph(t, text("Do ", o), h, g)
+				wantResult(t, text("Do ", o), r, api.Result{Err: api.ErrArg})
+				if k := Takes(mixedCfg(), g, o); k != 0 {
+					t.Errorf("Takes %v is %d", o, k)
+				}
+			}
+		}
+	}
+}
+
+// P11.1: numbers at which a kind does not look say nothing.
+func TestNumbersThatAreNotLookedAt(t *testing.T) {
+	looks := map[int][4]bool{api.LinkO: {true, true}, api.CutO: {true}, api.SetO: {true, false, true, true}, api.DelO: {true, false, true}, api.GetO: {true}, api.NearO: {true}, api.DropO: {true}, api.FuseO: {true, true}}
+	for _, x := range deeds() {
+		for _, n := range []int{1, 2, 4, 9, -1, least, greatest} {
+			o := x.o
+			for i, at := range []*int{&o.A, &o.B, &o.K, &o.V} {
+				if !looks[o.Kind][i] {
+					*at = n
+				}
+			}
+			g, r := Do(mixedCfg(), mixed(), o)
+			wantGraph(t, text("Do ", o), g, with(mixed(), x.does))
+			wantResult(t, text("Do ", o), r, x.r)
+			if got, want := Takes(mixedCfg(), mixed(), o), Takes(mixedCfg(), mixed(), x.o); got != want {
+				t.Errorf("Takes %v is %d; want %d, as of %v", o, got, want, x.o)
+			}
+		}
+	}
+}
+
+func someResult() api.Result {
+	return api.Result{Err: 2, Id: 7, Pairs: pairs(1, 2, least, greatest), Out: ends(3, 4, 5, 6), In: ends(8, 9, 10, 11)}
+}
+
+func copiedResult(r api.Result) api.Result {
+	r.Pairs, r.Out, r.In = append([]api.Pair(nil), r.Pairs...), append([]api.End(nil), r.Out...), append([]api.End(nil), r.In...)
+	return r
+}
+
+// The places of all of a result's numbers but Err.
+func numbers(r *api.Result) []*int {
+	l := []*int{&r.Id}
+	for i := range r.Pairs {
+		l = append(l, &r.Pairs[i].K, &r.Pairs[i].V)
+	}
+	for _, e := range [][]api.End{r.Out, r.In} {
+		for i := range e {
+			l = append(l, &e[i].Edge, &e[i].Node)
+		}
+	}
+	return l
+}
+
+// All results that differ from r in one thing: a number, or how long a list is, or in which order it stands.
+func others(r api.Result) []api.Result {
+	var l []api.Result
+	other := func(change func(r *api.Result)) {
+		x := copiedResult(r)
+		change(&x)
+		l = append(l, x)
+	}
+	for _, by := range []int{1, -1, 1 << 32, least} {
+		other(func(r *api.Result) { r.Err += api.Errno(by) })
+		for i := range numbers(&r) {
+			other(func(r *api.Result) { *numbers(r)[i] += by })
+		}
+	}
+	other(func(r *api.Result) { r.Pairs = append(r.Pairs, api.Pair{}) })
+	other(func(r *api.Result) { r.Out = append(r.Out, api.End{}) })
+	other(func(r *api.Result) { r.In = append(r.In, api.End{}) })
+	if n := len(r.Pairs); n > 0 {
+		other(func(r *api.Result) { r.Pairs = r.Pairs[:n-1] })
+		other(func(r *api.Result) { r.Pairs = r.Pairs[1:] })
+		other(func(r *api.Result) { r.Pairs = nil })
+	}
+	if n := len(r.Out); n > 0 {
+		other(func(r *api.Result) { r.Out = r.Out[:n-1] })
+		other(func(r *api.Result) { r.Out = nil })
+	}
+	if n := len(r.In); n > 0 {
+		other(func(r *api.Result) { r.In = r.In[:n-1] })
+		other(func(r *api.Result) { r.In = nil })
+	}
+	if text(r.Out) != text(r.In) {
+		other(func(r *api.Result) { r.Out, r.In = r.In, r.Out })
+	}
+	return l
+}
+
+func wantSame(t *testing.T, a, b api.Result, want bool) {
+	t.Helper()
+	if Same(a, b) != want || Same(b, a) != want {
+		t.Errorf("Same of %v and %v is %v, or the other way round; want %v", a, b, Same(a, b), want)
+	}
+}
+
+// P11.1
+func TestSame(t *testing.T) {
+	for _, r := range []api.Result{{}, {Err: api.ErrFull}, {Id: 1}, {Pairs: pairs(1, 2)}, {Out: ends(1, 2)}, {In: ends(1, 2)}, someResult()} {
+		wantSame(t, r, r, true)
+		wantSame(t, r, copiedResult(r), true)
+		for _, x := range others(r) {
+			wantSame(t, r, x, false)
+			wantSame(t, x, copiedResult(x), true)
+		}
+	}
+	turned := someResult()
+	turned.Pairs = pairs(least, greatest, 1, 2)
+	wantSame(t, someResult(), turned, false)
+	turned = someResult()
+	turned.Out = ends(5, 6, 3, 4)
+	wantSame(t, someResult(), turned, false)
+	wantSame(t, api.Result{Id: 2}, api.Result{Err: 2}, false)
+}
+
+// R3: nil and empty are the same, in each list.
+func TestSameOfListsWithoutElements(t *testing.T) {
+	for _, r := range []api.Result{{}, {Err: api.ErrFull}, {Id: 3}} {
+		for i := range 8 {
+			x := r
+			if i&1 != 0 {
+				x.Pairs = []api.Pair{}
+			}
+			if i&2 != 0 {
+				x.Out = []api.End{}
+			}
+			if i&4 != 0 {
+				x.In = []api.End{}
+			}
+			wantSame(t, r, x, true)
+		}
+	}
+}
