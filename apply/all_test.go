@@ -5,6 +5,7 @@ import (
 
 	"tendril/api"
 	"tendril/graph"
+	"tendril/sample"
 )
 
 func wantAll(t *testing.T, c api.Cfg, l []api.Op, g api.Graph, r ...api.Result) {
@@ -43,7 +44,7 @@ func TestAllOfWhichSomeFail(t *testing.T) {
 	}, api.Graph{Nodes: []api.Node{node(2, least, greatest)}, Edges: edges(1, 2, 2), NextNode: 3, NextEdge: 2},
 		none, api.Result{Id: 1}, none, api.Result{}, api.Result{Id: 2}, api.Result{Err: api.ErrIds},
 		api.Result{Id: 1}, api.Result{Err: api.ErrIds}, api.Result{Err: api.ErrArg}, api.Result{}, api.Result{Err: api.ErrSelf}, api.Result{},
-		none, api.Result{Pairs: pairs(least, greatest, 5, 6)}, api.Result{Out: ends(1, 2), In: ends(1, 2)}, none, api.Result{}, none, api.Result{Err: api.ErrIds})
+		none, api.Result{Pairs: sample.Pairs(least, greatest, 5, 6)}, api.Result{Out: sample.Ends(1, 2), In: sample.Ends(1, 2)}, none, api.Result{}, none, api.Result{Err: api.ErrIds})
 }
 
 // Operations of all kinds, and of one that there is not, drawn by a rule: more that add than that take away, and numbers that are about those that were given by then.

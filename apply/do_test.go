@@ -5,6 +5,7 @@ import (
 
 	"tendril/api"
 	"tendril/graph"
+	"tendril/sample"
 )
 
 // A deed is an operation, what is done with a graph, and what it comes to.
@@ -26,21 +27,21 @@ func deeds() []deed {
 		{api.Op{Kind: api.CutO, A: 1}, func(g *api.Graph) { g.Edges = g.Edges[1:] }, api.Result{}},
 		{api.Op{Kind: api.CutO, A: 4}, func(g *api.Graph) { g.Edges = edges(1, 1, 2, 2, 2, 1, 5, 4, 1, 6, 1, 2, 7, 4, 2) }, api.Result{}},
 		{api.Op{Kind: api.CutO, A: 7}, func(g *api.Graph) { g.Edges = g.Edges[:5] }, api.Result{}},
-		{api.Op{Kind: api.SetO, A: 1, K: 0, V: 4}, func(g *api.Graph) { g.Nodes[0].Pairs = pairs(-3, 5, 0, 4, 9, -1) }, api.Result{}},
+		{api.Op{Kind: api.SetO, A: 1, K: 0, V: 4}, func(g *api.Graph) { g.Nodes[0].Pairs = sample.Pairs(-3, 5, 0, 4, 9, -1) }, api.Result{}},
 		{api.Op{Kind: api.SetO, A: 1, K: 9, V: -1}, stays, api.Result{}},
-		{api.Op{Kind: api.SetO, A: 2}, func(g *api.Graph) { g.Nodes[1].Pairs = pairs(0, 0) }, api.Result{}},
-		{api.Op{Kind: api.SetO, A: 2, K: 4, V: 1}, func(g *api.Graph) { g.Nodes[1].Pairs = pairs(4, 1) }, api.Result{}},
-		{api.Op{Kind: api.SetO, A: 4, K: greatest, V: least}, func(g *api.Graph) { g.Nodes[2].Pairs = pairs(least, greatest, 9, 7, greatest, least) }, api.Result{}},
-		{api.Op{Kind: api.SetO, A: 4, K: least, V: least}, func(g *api.Graph) { g.Nodes[2].Pairs = pairs(least, least, 9, 7) }, api.Result{}},
-		{api.Op{Kind: api.DelO, A: 1, K: -3}, func(g *api.Graph) { g.Nodes[0].Pairs = pairs(0, 0, 9, -1) }, api.Result{}},
-		{api.Op{Kind: api.DelO, A: 1}, func(g *api.Graph) { g.Nodes[0].Pairs = pairs(-3, 5, 9, -1) }, api.Result{}},
-		{api.Op{Kind: api.DelO, A: 4, K: least}, func(g *api.Graph) { g.Nodes[2].Pairs = pairs(9, 7) }, api.Result{}},
-		{api.Op{Kind: api.GetO, A: 1}, stays, api.Result{Pairs: pairs(-3, 5, 0, 0, 9, -1)}},
+		{api.Op{Kind: api.SetO, A: 2}, func(g *api.Graph) { g.Nodes[1].Pairs = sample.Pairs(0, 0) }, api.Result{}},
+		{api.Op{Kind: api.SetO, A: 2, K: 4, V: 1}, func(g *api.Graph) { g.Nodes[1].Pairs = sample.Pairs(4, 1) }, api.Result{}},
+		{api.Op{Kind: api.SetO, A: 4, K: greatest, V: least}, func(g *api.Graph) { g.Nodes[2].Pairs = sample.Pairs(least, greatest, 9, 7, greatest, least) }, api.Result{}},
+		{api.Op{Kind: api.SetO, A: 4, K: least, V: least}, func(g *api.Graph) { g.Nodes[2].Pairs = sample.Pairs(least, least, 9, 7) }, api.Result{}},
+		{api.Op{Kind: api.DelO, A: 1, K: -3}, func(g *api.Graph) { g.Nodes[0].Pairs = sample.Pairs(0, 0, 9, -1) }, api.Result{}},
+		{api.Op{Kind: api.DelO, A: 1}, func(g *api.Graph) { g.Nodes[0].Pairs = sample.Pairs(-3, 5, 9, -1) }, api.Result{}},
+		{api.Op{Kind: api.DelO, A: 4, K: least}, func(g *api.Graph) { g.Nodes[2].Pairs = sample.Pairs(9, 7) }, api.Result{}},
+		{api.Op{Kind: api.GetO, A: 1}, stays, api.Result{Pairs: sample.Pairs(-3, 5, 0, 0, 9, -1)}},
 		{api.Op{Kind: api.GetO, A: 2}, stays, api.Result{}},
-		{api.Op{Kind: api.GetO, A: 4}, stays, api.Result{Pairs: pairs(least, greatest, 9, 7)}},
-		{api.Op{Kind: api.NearO, A: 1}, stays, api.Result{Out: ends(1, 2, 4, 1, 6, 2), In: ends(2, 2, 4, 1, 5, 4)}},
-		{api.Op{Kind: api.NearO, A: 2}, stays, api.Result{Out: ends(2, 1), In: ends(1, 1, 6, 1, 7, 4)}},
-		{api.Op{Kind: api.NearO, A: 4}, stays, api.Result{Out: ends(5, 1, 7, 2)}},
+		{api.Op{Kind: api.GetO, A: 4}, stays, api.Result{Pairs: sample.Pairs(least, greatest, 9, 7)}},
+		{api.Op{Kind: api.NearO, A: 1}, stays, api.Result{Out: sample.Ends(1, 2, 4, 1, 6, 2), In: sample.Ends(2, 2, 4, 1, 5, 4)}},
+		{api.Op{Kind: api.NearO, A: 2}, stays, api.Result{Out: sample.Ends(2, 1), In: sample.Ends(1, 1, 6, 1, 7, 4)}},
+		{api.Op{Kind: api.NearO, A: 4}, stays, api.Result{Out: sample.Ends(5, 1, 7, 2)}},
 		{api.Op{Kind: api.DropO, A: 1}, func(g *api.Graph) { g.Nodes, g.Edges = g.Nodes[1:], edges(7, 4, 2) }, api.Result{}},
 		{api.Op{Kind: api.DropO, A: 2}, func(g *api.Graph) {
 			g.Nodes, g.Edges = []api.Node{g.Nodes[0], g.Nodes[2]}, edges(4, 1, 1, 5, 4, 1)
@@ -183,65 +184,6 @@ func TestNumbersThatAreNotLookedAt(t *testing.T) {
 	}
 }
 
-func someResult() api.Result {
-	return api.Result{Err: 2, Id: 7, Pairs: pairs(1, 2, least, greatest), Out: ends(3, 4, 5, 6), In: ends(8, 9, 10, 11)}
-}
-
-func copiedResult(r api.Result) api.Result {
-	r.Pairs, r.Out, r.In = append([]api.Pair(nil), r.Pairs...), append([]api.End(nil), r.Out...), append([]api.End(nil), r.In...)
-	return r
-}
-
-// The places of all of a result's numbers but Err.
-func numbers(r *api.Result) []*int {
-	l := []*int{&r.Id}
-	for i := range r.Pairs {
-		l = append(l, &r.Pairs[i].K, &r.Pairs[i].V)
-	}
-	for _, e := range [][]api.End{r.Out, r.In} {
-		for i := range e {
-			l = append(l, &e[i].Edge, &e[i].Node)
-		}
-	}
-	return l
-}
-
-// All results that differ from r in one thing: a number, or how long a list is, or in which order it stands.
-func others(r api.Result) []api.Result {
-	var l []api.Result
-	other := func(change func(r *api.Result)) {
-		x := copiedResult(r)
-		change(&x)
-		l = append(l, x)
-	}
-	for _, by := range []int{1, -1, 1 << 32, least} {
-		other(func(r *api.Result) { r.Err += api.Errno(by) })
-		for i := range numbers(&r) {
-			other(func(r *api.Result) { *numbers(r)[i] += by })
-		}
-	}
-	other(func(r *api.Result) { r.Pairs = append(r.Pairs, api.Pair{}) })
-	other(func(r *api.Result) { r.Out = append(r.Out, api.End{}) })
-	other(func(r *api.Result) { r.In = append(r.In, api.End{}) })
-	if n := len(r.Pairs); n > 0 {
-		other(func(r *api.Result) { r.Pairs = r.Pairs[:n-1] })
-		other(func(r *api.Result) { r.Pairs = r.Pairs[1:] })
-		other(func(r *api.Result) { r.Pairs = nil })
-	}
-	if n := len(r.Out); n > 0 {
-		other(func(r *api.Result) { r.Out = r.Out[:n-1] })
-		other(func(r *api.Result) { r.Out = nil })
-	}
-	if n := len(r.In); n > 0 {
-		other(func(r *api.Result) { r.In = r.In[:n-1] })
-		other(func(r *api.Result) { r.In = nil })
-	}
-	if text(r.Out) != text(r.In) {
-		other(func(r *api.Result) { r.Out, r.In = r.In, r.Out })
-	}
-	return l
-}
-
 func wantSame(t *testing.T, a, b api.Result, want bool) {
 	t.Helper()
 	if Same(a, b) != want || Same(b, a) != want {
@@ -251,20 +193,20 @@ func wantSame(t *testing.T, a, b api.Result, want bool) {
 
 // P11.1
 func TestSame(t *testing.T) {
-	for _, r := range []api.Result{{}, {Err: api.ErrFull}, {Id: 1}, {Pairs: pairs(1, 2)}, {Out: ends(1, 2)}, {In: ends(1, 2)}, someResult()} {
+	for _, r := range []api.Result{{}, {Err: api.ErrFull}, {Id: 1}, {Pairs: sample.Pairs(1, 2)}, {Out: sample.Ends(1, 2)}, {In: sample.Ends(1, 2)}, sample.Result()} {
 		wantSame(t, r, r, true)
-		wantSame(t, r, copiedResult(r), true)
-		for _, x := range others(r) {
+		wantSame(t, r, sample.Copied(r), true)
+		for _, x := range sample.Others(r) {
 			wantSame(t, r, x, false)
-			wantSame(t, x, copiedResult(x), true)
+			wantSame(t, x, sample.Copied(x), true)
 		}
 	}
-	turned := someResult()
-	turned.Pairs = pairs(least, greatest, 1, 2)
-	wantSame(t, someResult(), turned, false)
-	turned = someResult()
-	turned.Out = ends(5, 6, 3, 4)
-	wantSame(t, someResult(), turned, false)
+	turned := sample.Result()
+	turned.Pairs = sample.Pairs(least, greatest, 1, 2)
+	wantSame(t, sample.Result(), turned, false)
+	turned = sample.Result()
+	turned.Out = sample.Ends(5, 6, 3, 4)
+	wantSame(t, sample.Result(), turned, false)
 	wantSame(t, api.Result{Id: 2}, api.Result{Err: 2}, false)
 }
 

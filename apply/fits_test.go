@@ -5,6 +5,7 @@ import (
 
 	"tendril/api"
 	"tendril/graph"
+	"tendril/sample"
 )
 
 func wantTakes(t *testing.T, g api.Graph, o api.Op, want int) {
@@ -65,7 +66,7 @@ func wantFits(t *testing.T, g api.Graph, o api.Op, r api.Result, want api.Graph,
 func TestFits(t *testing.T) {
 	for _, x := range deeds() {
 		wantFits(t, mixed(), x.o, x.r, with(mixed(), x.does), true)
-		for _, r := range others(x.r) {
+		for _, r := range sample.Others(x.r) {
 			wantFits(t, mixed(), x.o, r, mixed(), false)
 		}
 	}
@@ -94,7 +95,7 @@ func TestFitsOfFull(t *testing.T) {
 		fits := taken(mixed(), with(mixed(), x.does)) != 0
 		wantFits(t, mixed(), x.o, api.Result{Err: api.ErrFull}, mixed(), fits)
 		wantFits(t, mixed(), x.o, api.Result{Err: api.ErrFull, Pairs: []api.Pair{}, Out: []api.End{}, In: []api.End{}}, mixed(), fits)
-		for _, r := range others(api.Result{Err: api.ErrFull}) {
+		for _, r := range sample.Others(api.Result{Err: api.ErrFull}) {
 			if text(r) != text(x.r) {
 				wantFits(t, mixed(), x.o, r, mixed(), false)
 			}
@@ -112,8 +113,6 @@ func TestFitsOfFull(t *testing.T) {
 // R3: a result whose lists are empty is one whose lists are nil.
 func TestFitsOfListsWithoutElements(t *testing.T) {
 	for _, x := range deeds() {
-		r := copiedResult(x.r)
-		r.Pairs, r.Out, r.In = append([]api.Pair{}, r.Pairs...), append([]api.End{}, r.Out...), append([]api.End{}, r.In...)
-		wantFits(t, mixed(), x.o, r, with(mixed(), x.does), true)
+		wantFits(t, mixed(), x.o, sample.Emptied(x.r), with(mixed(), x.does), true)
 	}
 }

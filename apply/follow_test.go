@@ -5,6 +5,7 @@ import (
 
 	"tendril/api"
 	"tendril/graph"
+	"tendril/sample"
 )
 
 // All operations of some numbers, of each kind, and of the kinds next to them.
@@ -108,7 +109,7 @@ func TestNumbersOfWhateverSize(t *testing.T) {
 	keys := []int{least, least + 1, -3, 0, 9, 1<<32 + 9, greatest - 1, greatest}
 	l := operations(ids, keys, []int{least, -1, 0, greatest})
 	for _, g := range []api.Graph{mixed(), usedUp(), graph.New()} {
-		results := []api.Result{{}, {Err: api.ErrFull}, {Err: api.ErrNone}, {Err: least}, {Id: greatest}, someResult()}
+		results := []api.Result{{}, {Err: api.ErrFull}, {Err: api.ErrNone}, {Err: least}, {Id: greatest}, sample.Result()}
 		for _, o := range l {
 			wantDone(t, mixedCfg(), g, o, results)
 		}

@@ -7,6 +7,7 @@ import (
 
 	"tendril/api"
 	"tendril/graph"
+	"tendril/sample"
 )
 
 const (
@@ -20,16 +21,8 @@ var noKinds = []int{0, 10, 11, -1, -2, -9, 64, 255, 256 + 1, 1<<16 + 2, 1 << 32,
 // Numbers that are no node's and no edge's in the graphs below.
 var nobodys = []int{0, -1, -2, 3, 5, 12, 64, 65, 1<<32 + 1, -1<<32 + 4, 1<<62 + 2, least, least + 1, greatest - 1, greatest}
 
-func pairs(l ...int) []api.Pair {
-	var told []api.Pair
-	for i := 0; i+1 < len(l); i += 2 {
-		told = append(told, api.Pair{K: l[i], V: l[i+1]})
-	}
-	return told
-}
-
 func node(id int, l ...int) api.Node {
-	return api.Node{Id: id, Pairs: pairs(l...)}
+	return api.Node{Id: id, Pairs: sample.Pairs(l...)}
 }
 
 // Three numbers an edge: its own, where it comes from, where it goes to.
@@ -37,14 +30,6 @@ func edges(l ...int) []api.Edge {
 	var told []api.Edge
 	for i := 0; i+2 < len(l); i += 3 {
 		told = append(told, api.Edge{Id: l[i], From: l[i+1], To: l[i+2]})
-	}
-	return told
-}
-
-func ends(l ...int) []api.End {
-	var told []api.End
-	for i := 0; i+1 < len(l); i += 2 {
-		told = append(told, api.End{Edge: l[i], Node: l[i+1]})
 	}
 	return told
 }

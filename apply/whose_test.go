@@ -5,6 +5,7 @@ import (
 
 	"tendril/api"
 	"tendril/graph"
+	"tendril/sample"
 )
 
 // told is what a call answers, whichever it is.
@@ -49,27 +50,14 @@ func someOperations() []api.Op {
 	return l
 }
 
-// A list with room behind it that is filled: whoever appends to it writes where the test can see it.
-func withRoom[T any](l []T, filled T) []T {
-	roomy := append([]T{}, l...)
-	roomy = append(roomy, filled, filled, filled)
-	return roomy[:len(l)]
-}
-
 func roomy(g api.Graph) api.Graph {
 	g = copied(g)
 	for i := range g.Nodes {
-		g.Nodes[i].Pairs = withRoom(g.Nodes[i].Pairs, api.Pair{K: 77, V: 77})
+		g.Nodes[i].Pairs = sample.WithRoom(g.Nodes[i].Pairs, api.Pair{K: 77, V: 77})
 	}
-	g.Nodes = withRoom(g.Nodes, node(77, 77, 77))
-	g.Edges = withRoom(g.Edges, api.Edge{Id: 77, From: 77, To: 77})
+	g.Nodes = sample.WithRoom(g.Nodes, node(77, 77, 77))
+	g.Edges = sample.WithRoom(g.Edges, api.Edge{Id: 77, From: 77, To: 77})
 	return g
-}
-
-func roomyResult(r api.Result) api.Result {
-	r.Pairs = withRoom(r.Pairs, api.Pair{K: 77, V: 77})
-	r.Out, r.In = withRoom(r.Out, api.End{Edge: 77}), withRoom(r.In, api.End{Node: 77})
-	return r
 }
 
 // The graph, as text, with what stands behind its lists.
@@ -85,32 +73,19 @@ func wholeResult(r api.Result) string {
 	return text(r.Err, r.Id, r.Pairs[:cap(r.Pairs)], r.Out[:cap(r.Out)], r.In[:cap(r.In)])
 }
 
-func spoilList[T any](l []T, with T) {
-	l = l[:cap(l)]
-	for i := range l {
-		l[i] = with
-	}
-}
-
 // Writes into all that can be reached of a graph.
 func spoil(g api.Graph) {
 	for _, n := range g.Nodes[:cap(g.Nodes)] {
-		spoilList(n.Pairs, api.Pair{K: -88, V: -88})
+		sample.Spoil(n.Pairs, api.Pair{K: -88, V: -88})
 	}
-	spoilList(g.Nodes, node(-88, -88, -88))
-	spoilList(g.Edges, api.Edge{Id: -88, From: -88, To: -88})
-}
-
-func spoilResult(r api.Result) {
-	spoilList(r.Pairs, api.Pair{K: -88, V: -88})
-	spoilList(r.Out, api.End{Edge: -88, Node: -88})
-	spoilList(r.In, api.End{Edge: -88, Node: -88})
+	sample.Spoil(g.Nodes, node(-88, -88, -88))
+	sample.Spoil(g.Edges, api.Edge{Id: -88, From: -88, To: -88})
 }
 
 func spoilTold(x told) {
 	spoil(x.g)
 	for _, r := range x.r {
-		spoilResult(r)
+		sample.SpoilResult(r)
 	}
 }
 
@@ -126,7 +101,7 @@ func TestWhatIsHandedInStays(t *testing.T) {
 	for _, o := range someOperations() {
 		for what, call := range someCalls(mixedCfg(), o) {
 			for _, g := range []api.Graph{roomy(mixed()), roomy(usedUp()), roomy(graph.New())} {
-				r := roomyResult(someResult())
+				r := sample.Roomy(sample.Result())
 				was, wasR := whole(g), wholeResult(r)
 				call(g, r)
 				wantText(t, text("the graph behind ", what, o), whole(g), was)
@@ -141,7 +116,7 @@ func TestWhatIsToldIsNew(t *testing.T) {
 	for _, o := range someOperations() {
 		for what, call := range someCalls(mixedCfg(), o) {
 			for _, from := range []api.Graph{mixed(), usedUp(), graph.New()} {
-				g, r := roomy(from), roomyResult(someResult())
+				g, r := roomy(from), sample.Roomy(sample.Result())
 				first, again := call(g, r), call(g, r)
 				was, wasG := text(first), whole(g)
 				wantText(t, text(what, o, ", once more"), text(again), was)
@@ -149,7 +124,7 @@ func TestWhatIsToldIsNew(t *testing.T) {
 				wantText(t, text(what, o, ", told once more and kept"), text(again), was)
 				wantText(t, text("the graph, behind a write into what was told of ", what, o), whole(g), wasG)
 				spoil(g)
-				spoilResult(r)
+				sample.SpoilResult(r)
 				wantText(t, text(what, o, ", behind a write into the arguments"), text(again), was)
 			}
 		}
@@ -158,7 +133,7 @@ func TestWhatIsToldIsNew(t *testing.T) {
 
 // R2: of what is told each list has memory of its own, also if nodes that are handed in share theirs, and operations come to the same.
 func TestListsOfAnAnswerShareNone(t *testing.T) {
-	shared := pairs(1, 1, 2, 2, 3, 3)
+	shared := sample.Pairs(1, 1, 2, 2, 3, 3)
 	g := mixed()
 	for i := range g.Nodes {
 		g.Nodes[i].Pairs = shared[:2]
@@ -168,30 +143,30 @@ func TestListsOfAnAnswerShareNone(t *testing.T) {
 			for i := range call(g, api.Result{}).g.Nodes {
 				x := call(g, api.Result{})
 				was := call(g, api.Result{})
-				spoilList(x.g.Nodes[i].Pairs, api.Pair{K: -88})
+				sample.Spoil(x.g.Nodes[i].Pairs, api.Pair{K: -88})
 				x.g.Nodes[i], was.g.Nodes[i] = api.Node{}, api.Node{}
 				wantText(t, text(what, o, ", behind a write into one of its lists"), text(x), text(was))
 			}
 		}
 	}
 	_, r := Do(mixedCfg(), mixed(), api.Op{Kind: api.NearO, A: 1})
-	spoilList(r.Out, api.End{})
-	wantText(t, "the edges to a node, behind a write into those from it", text(r.In), text(ends(2, 2, 4, 1, 5, 4)))
+	sample.Spoil(r.Out, api.End{})
+	wantText(t, "the edges to a node, behind a write into those from it", text(r.In), text(sample.Ends(2, 2, 4, 1, 5, 4)))
 }
 
 // R2: operations that are handed in stay, and no result of All changes with another one, nor with the graph.
 func TestWhatAllTellsIsNew(t *testing.T) {
 	l := []api.Op{{Kind: api.AddO}, {Kind: api.SetO, A: 1, K: 2, V: 3}, {Kind: api.LinkO, A: 1, B: 1}, {Kind: api.GetO, A: 1}, {Kind: api.GetO, A: 1}, {Kind: api.NearO, A: 1}, {Kind: api.NearO, A: 1}}
-	given := withRoom(l, api.Op{Kind: 77})
+	given := sample.WithRoom(l, api.Op{Kind: 77})
 	was := text(given[:cap(given)])
 	g, r := All(mixedCfg(), given)
 	wantText(t, "the operations", text(given[:cap(given)]), was)
 	told := text(g, r)
-	spoilList(given, api.Op{Kind: -88})
+	sample.Spoil(given, api.Op{Kind: -88})
 	wantText(t, "All, behind a write into the operations", text(g, r), told)
 	for i := range r {
 		again, results := All(mixedCfg(), l)
-		spoilResult(results[i])
+		sample.SpoilResult(results[i])
 		results[i] = r[i]
 		wantText(t, "All, behind a write into a result", text(again, results), told)
 	}
@@ -225,8 +200,8 @@ func TestWildGraphs(t *testing.T) {
 			was := text(g)
 			for _, o := range l {
 				for what, call := range someCalls(c, o) {
-					first := call(g, someResult())
-					wantText(t, text(what, o, " of what may not be, once more"), text(call(g, someResult())), text(first))
+					first := call(g, sample.Result())
+					wantText(t, text(what, o, " of what may not be, once more"), text(call(g, sample.Result())), text(first))
 				}
 			}
 			wantText(t, "what may not be", text(g), was)
