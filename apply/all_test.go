@@ -20,7 +20,7 @@ func wantAll(t *testing.T, c api.Cfg, l []api.Op, g api.Graph, r ...api.Result) 
 // P11.4: the chapter's example.
 func TestAllOfTwoNodesAndAnEdge(t *testing.T) {
 	wantAll(t, mixedCfg(), []api.Op{{Kind: api.AddO}, {Kind: api.AddO}, {Kind: api.LinkO, A: 1, B: 2}},
-		api.Graph{Nodes: []api.Node{node(1), node(2)}, Edges: edges(1, 1, 2), NextNode: 3, NextEdge: 2},
+		api.Graph{Nodes: []api.Node{sample.Node(1), sample.Node(2)}, Edges: sample.Edges(1, 1, 2), NextNode: 3, NextEdge: 2},
 		api.Result{Id: 1}, api.Result{Id: 2}, api.Result{Id: 1})
 }
 
@@ -41,7 +41,7 @@ func TestAllOfWhichSomeFail(t *testing.T) {
 		{Kind: api.LinkO, A: 1, B: 1}, {Kind: api.AddO}, {Kind: api.SetO, A: 2, K: 5, V: 6}, {Kind: api.SetO, A: 1, K: 5, V: 6}, {Kind: api.AddO}, {Kind: api.AddO},
 		{Kind: api.LinkO, A: 2, B: 1}, {Kind: api.LinkO, A: 2, B: 1}, {Kind: greatest, A: 1}, {Kind: api.SetO, A: 2, K: least, V: greatest}, {Kind: api.FuseO, A: 2, B: 2}, {Kind: api.FuseO, A: 2, B: 1},
 		{Kind: api.GetO, A: 1}, {Kind: api.GetO, A: 2}, {Kind: api.NearO, A: 2}, {Kind: api.DelO, A: 2, K: 6}, {Kind: api.DelO, A: 2, K: 5}, {Kind: api.CutO, A: 2}, {Kind: api.AddO},
-	}, api.Graph{Nodes: []api.Node{node(2, least, greatest)}, Edges: edges(1, 2, 2), NextNode: 3, NextEdge: 2},
+	}, api.Graph{Nodes: []api.Node{sample.Node(2, least, greatest)}, Edges: sample.Edges(1, 2, 2), NextNode: 3, NextEdge: 2},
 		none, api.Result{Id: 1}, none, api.Result{}, api.Result{Id: 2}, api.Result{Err: api.ErrIds},
 		api.Result{Id: 1}, api.Result{Err: api.ErrIds}, api.Result{Err: api.ErrArg}, api.Result{}, api.Result{Err: api.ErrSelf}, api.Result{},
 		none, api.Result{Pairs: sample.Pairs(least, greatest, 5, 6)}, api.Result{Out: sample.Ends(1, 2), In: sample.Ends(1, 2)}, none, api.Result{}, none, api.Result{Err: api.ErrIds})

@@ -20,12 +20,12 @@ func stays(*api.Graph) {}
 // P11.1, with no error, on mixed: each kind.
 func deeds() []deed {
 	return []deed{
-		{api.Op{Kind: api.AddO}, func(g *api.Graph) { g.Nodes, g.NextNode = append(g.Nodes, node(6)), 7 }, api.Result{Id: 6}},
-		{api.Op{Kind: api.LinkO, A: 1, B: 4}, func(g *api.Graph) { g.Edges, g.NextEdge = append(g.Edges, edges(8, 1, 4)...), 9 }, api.Result{Id: 8}},
-		{api.Op{Kind: api.LinkO, A: 4, B: 1}, func(g *api.Graph) { g.Edges, g.NextEdge = append(g.Edges, edges(8, 4, 1)...), 9 }, api.Result{Id: 8}},
-		{api.Op{Kind: api.LinkO, A: 2, B: 2}, func(g *api.Graph) { g.Edges, g.NextEdge = append(g.Edges, edges(8, 2, 2)...), 9 }, api.Result{Id: 8}},
+		{api.Op{Kind: api.AddO}, func(g *api.Graph) { g.Nodes, g.NextNode = append(g.Nodes, sample.Node(6)), 7 }, api.Result{Id: 6}},
+		{api.Op{Kind: api.LinkO, A: 1, B: 4}, func(g *api.Graph) { g.Edges, g.NextEdge = append(g.Edges, sample.Edges(8, 1, 4)...), 9 }, api.Result{Id: 8}},
+		{api.Op{Kind: api.LinkO, A: 4, B: 1}, func(g *api.Graph) { g.Edges, g.NextEdge = append(g.Edges, sample.Edges(8, 4, 1)...), 9 }, api.Result{Id: 8}},
+		{api.Op{Kind: api.LinkO, A: 2, B: 2}, func(g *api.Graph) { g.Edges, g.NextEdge = append(g.Edges, sample.Edges(8, 2, 2)...), 9 }, api.Result{Id: 8}},
 		{api.Op{Kind: api.CutO, A: 1}, func(g *api.Graph) { g.Edges = g.Edges[1:] }, api.Result{}},
-		{api.Op{Kind: api.CutO, A: 4}, func(g *api.Graph) { g.Edges = edges(1, 1, 2, 2, 2, 1, 5, 4, 1, 6, 1, 2, 7, 4, 2) }, api.Result{}},
+		{api.Op{Kind: api.CutO, A: 4}, func(g *api.Graph) { g.Edges = sample.Edges(1, 1, 2, 2, 2, 1, 5, 4, 1, 6, 1, 2, 7, 4, 2) }, api.Result{}},
 		{api.Op{Kind: api.CutO, A: 7}, func(g *api.Graph) { g.Edges = g.Edges[:5] }, api.Result{}},
 		{api.Op{Kind: api.SetO, A: 1, K: 0, V: 4}, func(g *api.Graph) { g.Nodes[0].Pairs = sample.Pairs(-3, 5, 0, 4, 9, -1) }, api.Result{}},
 		{api.Op{Kind: api.SetO, A: 1, K: 9, V: -1}, stays, api.Result{}},
@@ -42,18 +42,18 @@ func deeds() []deed {
 		{api.Op{Kind: api.NearO, A: 1}, stays, api.Result{Out: sample.Ends(1, 2, 4, 1, 6, 2), In: sample.Ends(2, 2, 4, 1, 5, 4)}},
 		{api.Op{Kind: api.NearO, A: 2}, stays, api.Result{Out: sample.Ends(2, 1), In: sample.Ends(1, 1, 6, 1, 7, 4)}},
 		{api.Op{Kind: api.NearO, A: 4}, stays, api.Result{Out: sample.Ends(5, 1, 7, 2)}},
-		{api.Op{Kind: api.DropO, A: 1}, func(g *api.Graph) { g.Nodes, g.Edges = g.Nodes[1:], edges(7, 4, 2) }, api.Result{}},
+		{api.Op{Kind: api.DropO, A: 1}, func(g *api.Graph) { g.Nodes, g.Edges = g.Nodes[1:], sample.Edges(7, 4, 2) }, api.Result{}},
 		{api.Op{Kind: api.DropO, A: 2}, func(g *api.Graph) {
-			g.Nodes, g.Edges = []api.Node{g.Nodes[0], g.Nodes[2]}, edges(4, 1, 1, 5, 4, 1)
+			g.Nodes, g.Edges = []api.Node{g.Nodes[0], g.Nodes[2]}, sample.Edges(4, 1, 1, 5, 4, 1)
 		}, api.Result{}},
 		{api.Op{Kind: api.FuseO, A: 1, B: 4}, func(g *api.Graph) {
-			g.Nodes, g.Edges = []api.Node{node(1, least, greatest, -3, 5, 0, 0, 9, -1), node(2)}, edges(1, 1, 2, 2, 2, 1, 4, 1, 1, 5, 1, 1, 6, 1, 2, 7, 1, 2)
+			g.Nodes, g.Edges = []api.Node{sample.Node(1, least, greatest, -3, 5, 0, 0, 9, -1), sample.Node(2)}, sample.Edges(1, 1, 2, 2, 2, 1, 4, 1, 1, 5, 1, 1, 6, 1, 2, 7, 1, 2)
 		}, api.Result{}},
 		{api.Op{Kind: api.FuseO, A: 4, B: 1}, func(g *api.Graph) {
-			g.Nodes, g.Edges = []api.Node{node(2), node(4, least, greatest, -3, 5, 0, 0, 9, 7)}, edges(1, 4, 2, 2, 2, 4, 4, 4, 4, 5, 4, 4, 6, 4, 2, 7, 4, 2)
+			g.Nodes, g.Edges = []api.Node{sample.Node(2), sample.Node(4, least, greatest, -3, 5, 0, 0, 9, 7)}, sample.Edges(1, 4, 2, 2, 2, 4, 4, 4, 4, 5, 4, 4, 6, 4, 2, 7, 4, 2)
 		}, api.Result{}},
 		{api.Op{Kind: api.FuseO, A: 2, B: 1}, func(g *api.Graph) {
-			g.Nodes, g.Edges = []api.Node{node(2, -3, 5, 0, 0, 9, -1), node(4, least, greatest, 9, 7)}, edges(1, 2, 2, 2, 2, 2, 4, 2, 2, 5, 4, 2, 6, 2, 2, 7, 4, 2)
+			g.Nodes, g.Edges = []api.Node{sample.Node(2, -3, 5, 0, 0, 9, -1), sample.Node(4, least, greatest, 9, 7)}, sample.Edges(1, 2, 2, 2, 2, 2, 4, 2, 2, 5, 4, 2, 6, 2, 2, 7, 4, 2)
 		}, api.Result{}},
 	}
 }
@@ -144,7 +144,7 @@ func TestDoUpToTheLastNumber(t *testing.T) {
 		wantResult(t, text("Do ", x.o, " of ", g), r, x.r)
 		g = h
 	}
-	wantGraph(t, "behind all", g, api.Graph{Nodes: []api.Node{node(2)}, Edges: edges(2, 2, 2), NextNode: 3, NextEdge: 3})
+	wantGraph(t, "behind all", g, api.Graph{Nodes: []api.Node{sample.Node(2)}, Edges: sample.Edges(2, 2, 2), NextNode: 3, NextEdge: 3})
 }
 
 // P11.1: another kind is ErrArg, whatever stands beside it.

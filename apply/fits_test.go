@@ -38,7 +38,7 @@ func TestTakes(t *testing.T) {
 // P11.2: how many records are free is not asked.
 func TestTakesWhenAllAreInUse(t *testing.T) {
 	c := api.Cfg{Nodes: 1, Edges: 1, Props: 1, Ids: 9, EdgeIds: 9}
-	g := api.Graph{Nodes: []api.Node{node(1, 7, 7)}, Edges: edges(1, 1, 1), NextNode: 2, NextEdge: 2}
+	g := api.Graph{Nodes: []api.Node{sample.Node(1, 7, 7)}, Edges: sample.Edges(1, 1, 1), NextNode: 2, NextEdge: 2}
 	for o, want := range map[api.Op]int{{Kind: api.AddO}: 1, {Kind: api.LinkO, A: 1, B: 1}: 2, {Kind: api.SetO, A: 1, K: 8}: 3, {Kind: api.SetO, A: 1, K: 7}: 0} {
 		if k := Takes(c, g, o); k != want {
 			t.Errorf("Takes %v is %d; want %d", o, k, want)

@@ -21,19 +21,6 @@ var noKinds = []int{0, 10, 11, -1, -2, -9, 64, 255, 256 + 1, 1<<16 + 2, 1 << 32,
 // Numbers that are no node's and no edge's in the graphs below.
 var nobodys = []int{0, -1, -2, 3, 5, 12, 64, 65, 1<<32 + 1, -1<<32 + 4, 1<<62 + 2, least, least + 1, greatest - 1, greatest}
 
-func node(id int, l ...int) api.Node {
-	return api.Node{Id: id, Pairs: sample.Pairs(l...)}
-}
-
-// Three numbers an edge: its own, where it comes from, where it goes to.
-func edges(l ...int) []api.Edge {
-	var told []api.Edge
-	for i := 0; i+2 < len(l); i += 3 {
-		told = append(told, api.Edge{Id: l[i], From: l[i+1], To: l[i+2]})
-	}
-	return told
-}
-
 func mixedCfg() api.Cfg {
 	return api.Cfg{Nodes: 4, Edges: 8, Props: 6, Ids: 6, EdgeIds: 8}
 }
@@ -41,8 +28,8 @@ func mixedCfg() api.Cfg {
 // Numbers that are gone, edges both ways between two, two of them the same way, edges from a node to itself, and properties, of which 1 and 4 share a key.
 func mixed() api.Graph {
 	return api.Graph{
-		Nodes:    []api.Node{node(1, -3, 5, 0, 0, 9, -1), node(2), node(4, least, greatest, 9, 7)},
-		Edges:    edges(1, 1, 2, 2, 2, 1, 4, 1, 1, 5, 4, 1, 6, 1, 2, 7, 4, 2),
+		Nodes:    []api.Node{sample.Node(1, -3, 5, 0, 0, 9, -1), sample.Node(2), sample.Node(4, least, greatest, 9, 7)},
+		Edges:    sample.Edges(1, 1, 2, 2, 2, 1, 4, 1, 1, 5, 4, 1, 6, 1, 2, 7, 4, 2),
 		NextNode: 6,
 		NextEdge: 8,
 	}
@@ -56,18 +43,8 @@ func usedUp() api.Graph {
 }
 
 func with(g api.Graph, change func(g *api.Graph)) api.Graph {
-	told := copied(g)
+	told := sample.CopiedGraph(g)
 	change(&told)
-	return told
-}
-
-// Written element by element, so that it is not the program's own way.
-func copied(g api.Graph) api.Graph {
-	told := api.Graph{NextNode: g.NextNode, NextEdge: g.NextEdge}
-	for _, n := range g.Nodes {
-		told.Nodes = append(told.Nodes, api.Node{Id: n.Id, Pairs: append([]api.Pair(nil), n.Pairs...)})
-	}
-	told.Edges = append(told.Edges, g.Edges...)
 	return told
 }
 

@@ -50,40 +50,8 @@ func someOperations() []api.Op {
 	return l
 }
 
-func roomy(g api.Graph) api.Graph {
-	g = copied(g)
-	for i := range g.Nodes {
-		g.Nodes[i].Pairs = sample.WithRoom(g.Nodes[i].Pairs, api.Pair{K: 77, V: 77})
-	}
-	g.Nodes = sample.WithRoom(g.Nodes, node(77, 77, 77))
-	g.Edges = sample.WithRoom(g.Edges, api.Edge{Id: 77, From: 77, To: 77})
-	return g
-}
-
-// The graph, as text, with what stands behind its lists.
-func whole(g api.Graph) string {
-	all := text(g.NextNode, g.NextEdge, g.Edges[:cap(g.Edges)])
-	for _, n := range g.Nodes[:cap(g.Nodes)] {
-		all += text(" ", n.Id, n.Pairs[:cap(n.Pairs)])
-	}
-	return all
-}
-
-func wholeResult(r api.Result) string {
-	return text(r.Err, r.Id, r.Pairs[:cap(r.Pairs)], r.Out[:cap(r.Out)], r.In[:cap(r.In)])
-}
-
-// Writes into all that can be reached of a graph.
-func spoil(g api.Graph) {
-	for _, n := range g.Nodes[:cap(g.Nodes)] {
-		sample.Spoil(n.Pairs, api.Pair{K: -88, V: -88})
-	}
-	sample.Spoil(g.Nodes, node(-88, -88, -88))
-	sample.Spoil(g.Edges, api.Edge{Id: -88, From: -88, To: -88})
-}
-
 func spoilTold(x told) {
-	spoil(x.g)
+	sample.SpoilGraph(x.g)
 	for _, r := range x.r {
 		sample.SpoilResult(r)
 	}
@@ -100,12 +68,12 @@ func wantText(t *testing.T, what, got, want string) {
 func TestWhatIsHandedInStays(t *testing.T) {
 	for _, o := range someOperations() {
 		for what, call := range someCalls(mixedCfg(), o) {
-			for _, g := range []api.Graph{roomy(mixed()), roomy(usedUp()), roomy(graph.New())} {
+			for _, g := range []api.Graph{sample.RoomyGraph(mixed()), sample.RoomyGraph(usedUp()), sample.RoomyGraph(graph.New())} {
 				r := sample.Roomy(sample.Result())
-				was, wasR := whole(g), wholeResult(r)
+				was, wasR := text(sample.WholeGraph(g)), text(sample.WholeResult(r))
 				call(g, r)
-				wantText(t, text("the graph behind ", what, o), whole(g), was)
-				wantText(t, text("the result behind ", what, o), wholeResult(r), wasR)
+				wantText(t, text("the graph behind ", what, o), text(sample.WholeGraph(g)), was)
+				wantText(t, text("the result behind ", what, o), text(sample.WholeResult(r)), wasR)
 			}
 		}
 	}
@@ -116,14 +84,14 @@ func TestWhatIsToldIsNew(t *testing.T) {
 	for _, o := range someOperations() {
 		for what, call := range someCalls(mixedCfg(), o) {
 			for _, from := range []api.Graph{mixed(), usedUp(), graph.New()} {
-				g, r := roomy(from), sample.Roomy(sample.Result())
+				g, r := sample.RoomyGraph(from), sample.Roomy(sample.Result())
 				first, again := call(g, r), call(g, r)
-				was, wasG := text(first), whole(g)
+				was, wasG := text(first), text(sample.WholeGraph(g))
 				wantText(t, text(what, o, ", once more"), text(again), was)
 				spoilTold(first)
 				wantText(t, text(what, o, ", told once more and kept"), text(again), was)
-				wantText(t, text("the graph, behind a write into what was told of ", what, o), whole(g), wasG)
-				spoil(g)
+				wantText(t, text("the graph, behind a write into what was told of ", what, o), text(sample.WholeGraph(g)), wasG)
+				sample.SpoilGraph(g)
 				sample.SpoilResult(r)
 				wantText(t, text(what, o, ", behind a write into the arguments"), text(again), was)
 			}
@@ -171,7 +139,7 @@ func TestWhatAllTellsIsNew(t *testing.T) {
 		wantText(t, "All, behind a write into a result", text(again, results), told)
 	}
 	again, results := All(mixedCfg(), l)
-	spoil(again)
+	sample.SpoilGraph(again)
 	wantText(t, "All, behind a write into its graph", text(results), text(r))
 	wantText(t, "what All told earlier", text(g, r), told)
 }
@@ -180,15 +148,15 @@ func TestWhatAllTellsIsNew(t *testing.T) {
 func wildGraphs() []api.Graph {
 	long := api.Graph{NextNode: greatest, NextEdge: greatest}
 	for i := range 200 {
-		long.Nodes = append(long.Nodes, node(-i, i, i, i, 1, -i, 2))
+		long.Nodes = append(long.Nodes, sample.Node(-i, i, i, i, 1, -i, 2))
 		long.Edges = append(long.Edges, api.Edge{Id: i % 7, From: -i, To: i})
 	}
 	return []api.Graph{
 		{}, {NextNode: greatest, NextEdge: greatest}, {NextNode: least, NextEdge: least}, {NextNode: -1, NextEdge: 70}, long,
 		{Nodes: []api.Node{{}, {}, {}}, Edges: []api.Edge{{}, {}}},
-		{Nodes: []api.Node{node(4, 9, 9, 9, 9, 1, 1), node(1, 4, 4), node(4), node(1, 4, 4, 4, 4), node(2, least, 0, least, 0)}, Edges: edges(4, 1, 1, 4, 2, 4, 1, 4, 1, 10, 9, 9), NextNode: 2, NextEdge: 1},
-		{Nodes: []api.Node{node(greatest, 1, 1), node(least, 1, 1), node(greatest)}, Edges: edges(greatest, least, greatest, least, greatest, least, 0, 0, 0), NextNode: greatest, NextEdge: least},
-		{Edges: edges(1, 1, 2, 2, 2, 1), NextNode: 3, NextEdge: 3},
+		{Nodes: []api.Node{sample.Node(4, 9, 9, 9, 9, 1, 1), sample.Node(1, 4, 4), sample.Node(4), sample.Node(1, 4, 4, 4, 4), sample.Node(2, least, 0, least, 0)}, Edges: sample.Edges(4, 1, 1, 4, 2, 4, 1, 4, 1, 10, 9, 9), NextNode: 2, NextEdge: 1},
+		{Nodes: []api.Node{sample.Node(greatest, 1, 1), sample.Node(least, 1, 1), sample.Node(greatest)}, Edges: sample.Edges(greatest, least, greatest, least, greatest, least, 0, 0, 0), NextNode: greatest, NextEdge: least},
+		{Edges: sample.Edges(1, 1, 2, 2, 2, 1), NextNode: 3, NextEdge: 3},
 	}
 }
 

@@ -6,6 +6,7 @@ import (
 	"testing"
 
 	"tendril/api"
+	"tendril/sample"
 )
 
 // P10.1
@@ -19,13 +20,13 @@ func TestNew(t *testing.T) {
 // P10.2: numbers are given behind those that are gone, too.
 func TestAdd(t *testing.T) {
 	g, id, e := Add(mixedCfg(), mixed())
-	wantTold(t, "Add", g, e, with(mixed(), func(g *api.Graph) { g.Nodes, g.NextNode = append(g.Nodes, node(7)), 8 }))
+	wantTold(t, "Add", g, e, with(mixed(), func(g *api.Graph) { g.Nodes, g.NextNode = append(g.Nodes, sample.Node(7)), 8 }))
 	wantNumber(t, "Add", id, 7)
 	h, id, e := Add(mixedCfg(), g)
 	wantError(t, "Add, with no number left", h, e, api.ErrIds)
 	wantNumber(t, "Add, with no number left", id, 0)
 	g, id, e = Add(mixedCfg(), New())
-	wantTold(t, "Add to New", g, e, api.Graph{Nodes: []api.Node{node(1)}, NextNode: 2, NextEdge: 1})
+	wantTold(t, "Add to New", g, e, api.Graph{Nodes: []api.Node{sample.Node(1)}, NextNode: 2, NextEdge: 1})
 	wantNumber(t, "Add to New", id, 1)
 }
 
@@ -40,7 +41,7 @@ func TestAddWithoutNodesAndNumbers(t *testing.T) {
 		wantErrno(t, "Add", e, x.e)
 		wantNumber(t, "Add", id, x.id)
 		if e == api.OK {
-			wantGraph(t, "Add", g, api.Graph{Nodes: []api.Node{node(x.next)}, NextNode: x.next + 1, NextEdge: 1})
+			wantGraph(t, "Add", g, api.Graph{Nodes: []api.Node{sample.Node(x.next)}, NextNode: x.next + 1, NextEdge: 1})
 		}
 	}
 }
@@ -51,7 +52,7 @@ func TestLink(t *testing.T) {
 		what := fmt.Sprint("Link ", x)
 		g, id, e := Link(mixedCfg(), mixed(), x.a, x.b)
 		wantTold(t, what, g, e, with(mixed(), func(g *api.Graph) {
-			g.Edges, g.NextEdge = append(g.Edges, edges(11, x.a, x.b)...), 12
+			g.Edges, g.NextEdge = append(g.Edges, sample.Edges(11, x.a, x.b)...), 12
 		}))
 		wantNumber(t, what, id, 11)
 	}
@@ -67,7 +68,7 @@ func TestLinkUsesUpTheNumbers(t *testing.T) {
 	h, id, e := Link(c, g, 2, 2)
 	wantError(t, "Link, with no number left", h, e, api.ErrIds)
 	wantNumber(t, "Link, with no number left", id, 0)
-	h, id, e = Link(c, api.Graph{Nodes: []api.Node{node(1)}, NextNode: 2, NextEdge: 13}, 1, 1)
+	h, id, e = Link(c, api.Graph{Nodes: []api.Node{sample.Node(1)}, NextNode: 2, NextEdge: 13}, 1, 1)
 	wantError(t, "Link, with no number and no edge left", h, e, api.ErrIds)
 	wantNumber(t, "Link, with no number and no edge left", id, 0)
 }
@@ -103,7 +104,7 @@ func TestRecordsAreNotAsked(t *testing.T) {
 		wantNumber(t, "Link", id, want)
 		g = next
 	}
-	wantGraph(t, "what has more than its records", g, api.Graph{Nodes: []api.Node{node(1), node(2), node(3)}, Edges: edges(1, 1, 1, 2, 2, 1, 3, 3, 1), NextNode: 4, NextEdge: 4})
+	wantGraph(t, "what has more than its records", g, api.Graph{Nodes: []api.Node{sample.Node(1), sample.Node(2), sample.Node(3)}, Edges: sample.Edges(1, 1, 1, 2, 2, 1, 3, 3, 1), NextNode: 4, NextEdge: 4})
 	wantErrno(t, "Check of it", Check(c, g), api.ErrArg)
 	g = full()
 	h, e := Set(g, 1, 7, 7)
@@ -117,10 +118,10 @@ func TestCut(t *testing.T) {
 		e    int
 		left []api.Edge
 	}{
-		{1, edges(3, 2, 1, 4, 1, 2, 5, 1, 1, 6, 4, 4, 8, 4, 1, 10, 6, 4)},
-		{4, edges(1, 1, 2, 3, 2, 1, 5, 1, 1, 6, 4, 4, 8, 4, 1, 10, 6, 4)},
-		{5, edges(1, 1, 2, 3, 2, 1, 4, 1, 2, 6, 4, 4, 8, 4, 1, 10, 6, 4)},
-		{10, edges(1, 1, 2, 3, 2, 1, 4, 1, 2, 5, 1, 1, 6, 4, 4, 8, 4, 1)},
+		{1, sample.Edges(3, 2, 1, 4, 1, 2, 5, 1, 1, 6, 4, 4, 8, 4, 1, 10, 6, 4)},
+		{4, sample.Edges(1, 1, 2, 3, 2, 1, 5, 1, 1, 6, 4, 4, 8, 4, 1, 10, 6, 4)},
+		{5, sample.Edges(1, 1, 2, 3, 2, 1, 4, 1, 2, 6, 4, 4, 8, 4, 1, 10, 6, 4)},
+		{10, sample.Edges(1, 1, 2, 3, 2, 1, 4, 1, 2, 5, 1, 1, 6, 4, 4, 8, 4, 1)},
 	} {
 		g, e := Cut(mixed(), x.e)
 		wantTold(t, fmt.Sprint("Cut ", x.e), g, e, with(mixed(), func(g *api.Graph) { g.Edges = x.left }))
@@ -145,21 +146,21 @@ func TestSet(t *testing.T) {
 		n, k, v, at int
 		now         []api.Pair
 	}{
-		{1, -4, 2, 0, pairs(-4, 2, -3, 5, 0, 0, 9, -1)},
-		{1, -1, 2, 0, pairs(-3, 5, -1, 2, 0, 0, 9, -1)},
-		{1, 8, 0, 0, pairs(-3, 5, 0, 0, 8, 0, 9, -1)},
-		{1, 10, 9, 0, pairs(-3, 5, 0, 0, 9, -1, 10, 9)},
-		{1, -3, 6, 0, pairs(-3, 6, 0, 0, 9, -1)},
-		{1, 0, -7, 0, pairs(-3, 5, 0, -7, 9, -1)},
-		{1, 9, -1, 0, pairs(-3, 5, 0, 0, 9, -1)},
-		{1, 9, 0, 0, pairs(-3, 5, 0, 0, 9, 0)},
-		{1, least, least, 0, pairs(least, least, -3, 5, 0, 0, 9, -1)},
-		{1, greatest, greatest, 0, pairs(-3, 5, 0, 0, 9, -1, greatest, greatest)},
-		{2, 0, 0, 1, pairs(0, 0)},
-		{2, greatest, least, 1, pairs(greatest, least)},
-		{4, least, 3, 2, pairs(least, 3, 9, 7)},
-		{4, least + 1, 3, 2, pairs(least, greatest, least+1, 3, 9, 7)},
-		{6, 9, 9, 3, pairs(9, 9)},
+		{1, -4, 2, 0, sample.Pairs(-4, 2, -3, 5, 0, 0, 9, -1)},
+		{1, -1, 2, 0, sample.Pairs(-3, 5, -1, 2, 0, 0, 9, -1)},
+		{1, 8, 0, 0, sample.Pairs(-3, 5, 0, 0, 8, 0, 9, -1)},
+		{1, 10, 9, 0, sample.Pairs(-3, 5, 0, 0, 9, -1, 10, 9)},
+		{1, -3, 6, 0, sample.Pairs(-3, 6, 0, 0, 9, -1)},
+		{1, 0, -7, 0, sample.Pairs(-3, 5, 0, -7, 9, -1)},
+		{1, 9, -1, 0, sample.Pairs(-3, 5, 0, 0, 9, -1)},
+		{1, 9, 0, 0, sample.Pairs(-3, 5, 0, 0, 9, 0)},
+		{1, least, least, 0, sample.Pairs(least, least, -3, 5, 0, 0, 9, -1)},
+		{1, greatest, greatest, 0, sample.Pairs(-3, 5, 0, 0, 9, -1, greatest, greatest)},
+		{2, 0, 0, 1, sample.Pairs(0, 0)},
+		{2, greatest, least, 1, sample.Pairs(greatest, least)},
+		{4, least, 3, 2, sample.Pairs(least, 3, 9, 7)},
+		{4, least + 1, 3, 2, sample.Pairs(least, greatest, least+1, 3, 9, 7)},
+		{6, 9, 9, 3, sample.Pairs(9, 9)},
 	} {
 		g, e := Set(mixed(), x.n, x.k, x.v)
 		wantTold(t, fmt.Sprint("Set ", x.n, x.k, x.v), g, e, with(mixed(), func(g *api.Graph) { g.Nodes[x.at].Pairs = x.now }))
@@ -172,11 +173,11 @@ func TestDel(t *testing.T) {
 		n, k, at int
 		now      []api.Pair
 	}{
-		{1, -3, 0, pairs(0, 0, 9, -1)},
-		{1, 0, 0, pairs(-3, 5, 9, -1)},
-		{1, 9, 0, pairs(-3, 5, 0, 0)},
-		{4, least, 2, pairs(9, 7)},
-		{4, 9, 2, pairs(least, greatest)},
+		{1, -3, 0, sample.Pairs(0, 0, 9, -1)},
+		{1, 0, 0, sample.Pairs(-3, 5, 9, -1)},
+		{1, 9, 0, sample.Pairs(-3, 5, 0, 0)},
+		{4, least, 2, sample.Pairs(9, 7)},
+		{4, 9, 2, sample.Pairs(least, greatest)},
 	} {
 		what := fmt.Sprint("Del ", x.n, x.k)
 		g, e := Del(mixed(), x.n, x.k)
@@ -184,8 +185,8 @@ func TestDel(t *testing.T) {
 		g, e = Del(g, x.n, x.k)
 		wantError(t, what+", once more", g, e, api.ErrNone)
 	}
-	g, e := Del(api.Graph{Nodes: []api.Node{node(1, 7, 7)}, NextNode: 2, NextEdge: 1}, 1, 7)
-	wantTold(t, "Del of the only property", g, e, api.Graph{Nodes: []api.Node{node(1)}, NextNode: 2, NextEdge: 1})
+	g, e := Del(api.Graph{Nodes: []api.Node{sample.Node(1, 7, 7)}, NextNode: 2, NextEdge: 1}, 1, 7)
+	wantTold(t, "Del of the only property", g, e, api.Graph{Nodes: []api.Node{sample.Node(1)}, NextNode: 2, NextEdge: 1})
 }
 
 // P10.3: another node's property is none, nor is a value a key.
@@ -205,7 +206,7 @@ func TestGet(t *testing.T) {
 		n    int
 		want []api.Pair
 	}{
-		{1, pairs(-3, 5, 0, 0, 9, -1)}, {2, nil}, {4, pairs(least, greatest, 9, 7)}, {6, nil},
+		{1, sample.Pairs(-3, 5, 0, 0, 9, -1)}, {2, nil}, {4, sample.Pairs(least, greatest, 9, 7)}, {6, nil},
 	} {
 		l, e := Get(mixed(), x.n)
 		wantErrno(t, "Get", e, api.OK)
@@ -221,10 +222,10 @@ func TestNear(t *testing.T) {
 		n       int
 		out, in []api.End
 	}{
-		{1, ends(1, 2, 4, 2, 5, 1), ends(3, 2, 5, 1, 8, 4)},
-		{2, ends(3, 1), ends(1, 1, 4, 1)},
-		{4, ends(6, 4, 8, 1), ends(6, 4, 10, 6)},
-		{6, ends(10, 4), nil},
+		{1, sample.Ends(1, 2, 4, 2, 5, 1), sample.Ends(3, 2, 5, 1, 8, 4)},
+		{2, sample.Ends(3, 1), sample.Ends(1, 1, 4, 1)},
+		{4, sample.Ends(6, 4, 8, 1), sample.Ends(6, 4, 10, 6)},
+		{6, sample.Ends(10, 4), nil},
 	} {
 		out, in, e := Near(mixed(), x.n)
 		wantErrno(t, "Near", e, api.OK)
@@ -232,7 +233,7 @@ func TestNear(t *testing.T) {
 			t.Errorf("Near %d is %v, %v; want %v, %v", x.n, out, in, x.out, x.in)
 		}
 	}
-	out, in, e := Near(api.Graph{Nodes: []api.Node{node(3)}, NextNode: 4, NextEdge: 9}, 3)
+	out, in, e := Near(api.Graph{Nodes: []api.Node{sample.Node(3)}, NextNode: 4, NextEdge: 9}, 3)
 	wantErrno(t, "Near of a node without edges", e, api.OK)
 	if len(out) != 0 || len(in) != 0 {
 		t.Errorf("Near of a node without edges is %v, %v", out, in)
@@ -247,10 +248,10 @@ func TestDrop(t *testing.T) {
 		nodes []api.Node
 		edges []api.Edge
 	}{
-		{1, []api.Node{all[1], all[2], all[3]}, edges(6, 4, 4, 10, 6, 4)},
-		{2, []api.Node{all[0], all[2], all[3]}, edges(5, 1, 1, 6, 4, 4, 8, 4, 1, 10, 6, 4)},
-		{4, []api.Node{all[0], all[1], all[3]}, edges(1, 1, 2, 3, 2, 1, 4, 1, 2, 5, 1, 1)},
-		{6, []api.Node{all[0], all[1], all[2]}, edges(1, 1, 2, 3, 2, 1, 4, 1, 2, 5, 1, 1, 6, 4, 4, 8, 4, 1)},
+		{1, []api.Node{all[1], all[2], all[3]}, sample.Edges(6, 4, 4, 10, 6, 4)},
+		{2, []api.Node{all[0], all[2], all[3]}, sample.Edges(5, 1, 1, 6, 4, 4, 8, 4, 1, 10, 6, 4)},
+		{4, []api.Node{all[0], all[1], all[3]}, sample.Edges(1, 1, 2, 3, 2, 1, 4, 1, 2, 5, 1, 1)},
+		{6, []api.Node{all[0], all[1], all[2]}, sample.Edges(1, 1, 2, 3, 2, 1, 4, 1, 2, 5, 1, 1, 6, 4, 4, 8, 4, 1)},
 	} {
 		what := fmt.Sprint("Drop ", x.n)
 		g, e := Drop(mixed(), x.n)
@@ -258,7 +259,7 @@ func TestDrop(t *testing.T) {
 		g, e = Drop(g, x.n)
 		wantError(t, what+", once more", g, e, api.ErrNone)
 	}
-	g, e := Drop(api.Graph{Nodes: []api.Node{node(1, 5, 5)}, Edges: edges(1, 1, 1, 2, 1, 1), NextNode: 2, NextEdge: 3}, 1)
+	g, e := Drop(api.Graph{Nodes: []api.Node{sample.Node(1, 5, 5)}, Edges: sample.Edges(1, 1, 1, 2, 1, 1), NextNode: 2, NextEdge: 3}, 1)
 	wantTold(t, "Drop of the only node", g, e, api.Graph{NextNode: 2, NextEdge: 3})
 }
 
@@ -306,11 +307,11 @@ func TestFuseWithItself(t *testing.T) {
 
 // P10.5: the chapter's example.
 func TestFusedTwoAreOneWithAnEdgeToItself(t *testing.T) {
-	g := api.Graph{Nodes: []api.Node{node(1), node(2)}, Edges: edges(1, 1, 2), NextNode: 3, NextEdge: 2}
+	g := api.Graph{Nodes: []api.Node{sample.Node(1), sample.Node(2)}, Edges: sample.Edges(1, 1, 2), NextNode: 3, NextEdge: 2}
 	h, e := Fuse(g, 1, 2)
-	wantTold(t, "Fuse 1 2", h, e, api.Graph{Nodes: []api.Node{node(1)}, Edges: edges(1, 1, 1), NextNode: 3, NextEdge: 2})
+	wantTold(t, "Fuse 1 2", h, e, api.Graph{Nodes: []api.Node{sample.Node(1)}, Edges: sample.Edges(1, 1, 1), NextNode: 3, NextEdge: 2})
 	h, e = Fuse(g, 2, 1)
-	wantTold(t, "Fuse 2 1", h, e, api.Graph{Nodes: []api.Node{node(2)}, Edges: edges(1, 2, 2), NextNode: 3, NextEdge: 2})
+	wantTold(t, "Fuse 2 1", h, e, api.Graph{Nodes: []api.Node{sample.Node(2)}, Edges: sample.Edges(1, 2, 2), NextNode: 3, NextEdge: 2})
 }
 
 // P10.5: edges both ways between the two and to themselves, and edges of others; keys that are shared, and that are not.
@@ -321,12 +322,12 @@ func TestFuse(t *testing.T) {
 		nodes []api.Node
 		edges []api.Edge
 	}{
-		{1, 2, []api.Node{all[0], all[2], all[3]}, edges(1, 1, 1, 3, 1, 1, 4, 1, 1, 5, 1, 1, 6, 4, 4, 8, 4, 1, 10, 6, 4)},
-		{2, 1, []api.Node{node(2, -3, 5, 0, 0, 9, -1), all[2], all[3]}, edges(1, 2, 2, 3, 2, 2, 4, 2, 2, 5, 2, 2, 6, 4, 4, 8, 4, 2, 10, 6, 4)},
-		{1, 4, []api.Node{node(1, least, greatest, -3, 5, 0, 0, 9, -1), all[1], all[3]}, edges(1, 1, 2, 3, 2, 1, 4, 1, 2, 5, 1, 1, 6, 1, 1, 8, 1, 1, 10, 6, 1)},
-		{4, 1, []api.Node{all[1], node(4, least, greatest, -3, 5, 0, 0, 9, 7), all[3]}, edges(1, 4, 2, 3, 2, 4, 4, 4, 2, 5, 4, 4, 6, 4, 4, 8, 4, 4, 10, 6, 4)},
-		{2, 6, []api.Node{all[0], all[1], all[2]}, edges(1, 1, 2, 3, 2, 1, 4, 1, 2, 5, 1, 1, 6, 4, 4, 8, 4, 1, 10, 2, 4)},
-		{6, 4, []api.Node{all[0], all[1], node(6, least, greatest, 9, 7)}, edges(1, 1, 2, 3, 2, 1, 4, 1, 2, 5, 1, 1, 6, 6, 6, 8, 6, 1, 10, 6, 6)},
+		{1, 2, []api.Node{all[0], all[2], all[3]}, sample.Edges(1, 1, 1, 3, 1, 1, 4, 1, 1, 5, 1, 1, 6, 4, 4, 8, 4, 1, 10, 6, 4)},
+		{2, 1, []api.Node{sample.Node(2, -3, 5, 0, 0, 9, -1), all[2], all[3]}, sample.Edges(1, 2, 2, 3, 2, 2, 4, 2, 2, 5, 2, 2, 6, 4, 4, 8, 4, 2, 10, 6, 4)},
+		{1, 4, []api.Node{sample.Node(1, least, greatest, -3, 5, 0, 0, 9, -1), all[1], all[3]}, sample.Edges(1, 1, 2, 3, 2, 1, 4, 1, 2, 5, 1, 1, 6, 1, 1, 8, 1, 1, 10, 6, 1)},
+		{4, 1, []api.Node{all[1], sample.Node(4, least, greatest, -3, 5, 0, 0, 9, 7), all[3]}, sample.Edges(1, 4, 2, 3, 2, 4, 4, 4, 2, 5, 4, 4, 6, 4, 4, 8, 4, 4, 10, 6, 4)},
+		{2, 6, []api.Node{all[0], all[1], all[2]}, sample.Edges(1, 1, 2, 3, 2, 1, 4, 1, 2, 5, 1, 1, 6, 4, 4, 8, 4, 1, 10, 2, 4)},
+		{6, 4, []api.Node{all[0], all[1], sample.Node(6, least, greatest, 9, 7)}, sample.Edges(1, 1, 2, 3, 2, 1, 4, 1, 2, 5, 1, 1, 6, 6, 6, 8, 6, 1, 10, 6, 6)},
 	} {
 		what := fmt.Sprint("Fuse ", x.a, x.b)
 		g, e := Fuse(mixed(), x.a, x.b)
@@ -340,18 +341,18 @@ func TestFuse(t *testing.T) {
 func TestFuseOfProperties(t *testing.T) {
 	for _, x := range []struct{ a, b, want []api.Pair }{
 		{nil, nil, nil},
-		{pairs(1, 2), nil, pairs(1, 2)},
-		{nil, pairs(1, 2), pairs(1, 2)},
-		{pairs(1, 2), pairs(1, 3), pairs(1, 2)},
-		{pairs(1, 0), pairs(1, 3), pairs(1, 0)},
-		{pairs(1, 2), pairs(0, 3), pairs(0, 3, 1, 2)},
-		{pairs(1, 2), pairs(2, 3), pairs(1, 2, 2, 3)},
-		{pairs(1, 1, 3, 3, 5, 5), pairs(0, 9, 2, 9, 4, 9, 6, 9), pairs(0, 9, 1, 1, 2, 9, 3, 3, 4, 9, 5, 5, 6, 9)},
-		{pairs(0, 9, 2, 9, 4, 9, 6, 9), pairs(1, 1, 3, 3, 5, 5), pairs(0, 9, 1, 1, 2, 9, 3, 3, 4, 9, 5, 5, 6, 9)},
-		{pairs(1, 1, 3, 3, 5, 5), pairs(1, 7, 2, 7, 5, 7), pairs(1, 1, 2, 7, 3, 3, 5, 5)},
-		{pairs(1, 1, 2, 2, 3, 3), pairs(1, 4, 2, 5, 3, 6), pairs(1, 1, 2, 2, 3, 3)},
-		{pairs(least, 1, greatest, 2), pairs(least, 3, 0, 4, greatest, 5), pairs(least, 1, 0, 4, greatest, 2)},
-		{pairs(0, 4), pairs(least, 3, greatest, 5), pairs(least, 3, 0, 4, greatest, 5)},
+		{sample.Pairs(1, 2), nil, sample.Pairs(1, 2)},
+		{nil, sample.Pairs(1, 2), sample.Pairs(1, 2)},
+		{sample.Pairs(1, 2), sample.Pairs(1, 3), sample.Pairs(1, 2)},
+		{sample.Pairs(1, 0), sample.Pairs(1, 3), sample.Pairs(1, 0)},
+		{sample.Pairs(1, 2), sample.Pairs(0, 3), sample.Pairs(0, 3, 1, 2)},
+		{sample.Pairs(1, 2), sample.Pairs(2, 3), sample.Pairs(1, 2, 2, 3)},
+		{sample.Pairs(1, 1, 3, 3, 5, 5), sample.Pairs(0, 9, 2, 9, 4, 9, 6, 9), sample.Pairs(0, 9, 1, 1, 2, 9, 3, 3, 4, 9, 5, 5, 6, 9)},
+		{sample.Pairs(0, 9, 2, 9, 4, 9, 6, 9), sample.Pairs(1, 1, 3, 3, 5, 5), sample.Pairs(0, 9, 1, 1, 2, 9, 3, 3, 4, 9, 5, 5, 6, 9)},
+		{sample.Pairs(1, 1, 3, 3, 5, 5), sample.Pairs(1, 7, 2, 7, 5, 7), sample.Pairs(1, 1, 2, 7, 3, 3, 5, 5)},
+		{sample.Pairs(1, 1, 2, 2, 3, 3), sample.Pairs(1, 4, 2, 5, 3, 6), sample.Pairs(1, 1, 2, 2, 3, 3)},
+		{sample.Pairs(least, 1, greatest, 2), sample.Pairs(least, 3, 0, 4, greatest, 5), sample.Pairs(least, 1, 0, 4, greatest, 2)},
+		{sample.Pairs(0, 4), sample.Pairs(least, 3, greatest, 5), sample.Pairs(least, 3, 0, 4, greatest, 5)},
 	} {
 		g := api.Graph{Nodes: []api.Node{{Id: 1, Pairs: x.a}, {Id: 2, Pairs: x.b}}, NextNode: 3, NextEdge: 1}
 		h, e := Fuse(g, 1, 2)
@@ -372,8 +373,8 @@ func TestFullGraph(t *testing.T) {
 	h, e = Fuse(g, 64, 1)
 	wantTold(t, "Fuse 64 1", h, e, with(g, func(g *api.Graph) {
 		g.Nodes = g.Nodes[1:]
-		g.Nodes[62].Pairs = pairs(-64, 64, -1, 1)
-		g.Edges[0], g.Edges[63] = edges(1, 64, 64)[0], edges(64, 64, 64)[0]
+		g.Nodes[62].Pairs = sample.Pairs(-64, 64, -1, 1)
+		g.Edges[0], g.Edges[63] = sample.Edges(1, 64, 64)[0], sample.Edges(64, 64, 64)[0]
 	}))
 	h, e = Drop(g, 1)
 	wantTold(t, "Drop 1", h, e, with(g, func(g *api.Graph) { g.Nodes, g.Edges = g.Nodes[1:], g.Edges[1:63] }))
@@ -381,7 +382,7 @@ func TestFullGraph(t *testing.T) {
 	wantError(t, "Add behind a Drop", h, e, api.ErrIds)
 	out, in, e := Near(g, 64)
 	wantErrno(t, "Near 64", e, api.OK)
-	if !slices.Equal(out, ends(64, 1)) || !slices.Equal(in, ends(1, 1)) {
+	if !slices.Equal(out, sample.Ends(64, 1)) || !slices.Equal(in, sample.Ends(1, 1)) {
 		t.Errorf("Near 64 is %v, %v", out, in)
 	}
 }

@@ -6,6 +6,7 @@ import (
 	"testing"
 
 	"tendril/api"
+	"tendril/sample"
 )
 
 type changed struct {
@@ -16,8 +17,8 @@ type changed struct {
 // A graph whose node 3 has no edges, so that it can be changed by itself.
 func loose() api.Graph {
 	return api.Graph{
-		Nodes:    []api.Node{node(1, 2, 2), node(3, 1, 1, 4, 4), node(5)},
-		Edges:    edges(2, 1, 5, 4, 5, 1, 7, 1, 1),
+		Nodes:    []api.Node{sample.Node(1, 2, 2), sample.Node(3, 1, 1, 4, 4), sample.Node(5)},
+		Edges:    sample.Edges(2, 1, 5, 4, 5, 1, 7, 1, 1),
 		NextNode: 6,
 		NextEdge: 8,
 	}
@@ -43,9 +44,9 @@ func TestGraphsThatMayBe(t *testing.T) {
 	wantMayBe(t, "a loose graph", looseCfg(), loose(), true)
 	wantMayBe(t, "a graph that uses up its records", api.Cfg{Nodes: 3, Edges: 3, Props: 3, Ids: 5, EdgeIds: 7}, loose(), true)
 	wantMayBe(t, "a graph in which all is gone", looseCfg(), api.Graph{NextNode: 9, NextEdge: 10}, true)
-	wantMayBe(t, "keys at both ends", looseCfg(), api.Graph{Nodes: []api.Node{node(8, least, 0, least+1, 0, greatest-1, 0, greatest, 0)}, NextNode: 9, NextEdge: 1}, true)
-	wantMayBe(t, "all properties at the last node", looseCfg(), api.Graph{Nodes: []api.Node{node(1), node(2, 1, 1, 2, 1, 3, 1, 4, 1)}, NextNode: 3, NextEdge: 1}, true)
-	wantMayBe(t, "the same keys at two nodes", looseCfg(), api.Graph{Nodes: []api.Node{node(1, 1, 1, 2, 2), node(2, 1, 1, 2, 2)}, NextNode: 3, NextEdge: 1}, true)
+	wantMayBe(t, "keys at both ends", looseCfg(), api.Graph{Nodes: []api.Node{sample.Node(8, least, 0, least+1, 0, greatest-1, 0, greatest, 0)}, NextNode: 9, NextEdge: 1}, true)
+	wantMayBe(t, "all properties at the last node", looseCfg(), api.Graph{Nodes: []api.Node{sample.Node(1), sample.Node(2, 1, 1, 2, 1, 3, 1, 4, 1)}, NextNode: 3, NextEdge: 1}, true)
+	wantMayBe(t, "the same keys at two nodes", looseCfg(), api.Graph{Nodes: []api.Node{sample.Node(1, 1, 1, 2, 2), sample.Node(2, 1, 1, 2, 2)}, NextNode: 3, NextEdge: 1}, true)
 	wantMayBe(t, "lists without elements", looseCfg(), api.Graph{Nodes: []api.Node{}, Edges: []api.Edge{}, NextNode: 1, NextEdge: 1}, true)
 }
 
@@ -66,10 +67,10 @@ func TestNextNumbers(t *testing.T) {
 // P10.1: each number at each place among the nodes, of which the others may be by themselves.
 func TestNumbersOfNodes(t *testing.T) {
 	for _, n := range append([]int{1, 2, 3, 4, 5, 6, 7, 8, 9, 10}, nobodys...) {
-		wantMayBe(t, "the first node", looseCfg(), api.Graph{Nodes: []api.Node{node(n), node(3), node(5)}, NextNode: 6, NextEdge: 1}, n == 1 || n == 2)
+		wantMayBe(t, "the first node", looseCfg(), api.Graph{Nodes: []api.Node{sample.Node(n), sample.Node(3), sample.Node(5)}, NextNode: 6, NextEdge: 1}, n == 1 || n == 2)
 		wantMayBe(t, "the middle node", looseCfg(), with(loose(), func(g *api.Graph) { g.Nodes[1].Id = n }), n >= 2 && n <= 4)
-		wantMayBe(t, "the last node", looseCfg(), api.Graph{Nodes: []api.Node{node(1), node(3), node(n)}, NextNode: 6, NextEdge: 1}, n == 4 || n == 5)
-		wantMayBe(t, "the only node", looseCfg(), api.Graph{Nodes: []api.Node{node(n)}, NextNode: 6, NextEdge: 1}, n >= 1 && n <= 5)
+		wantMayBe(t, "the last node", looseCfg(), api.Graph{Nodes: []api.Node{sample.Node(1), sample.Node(3), sample.Node(n)}, NextNode: 6, NextEdge: 1}, n == 4 || n == 5)
+		wantMayBe(t, "the only node", looseCfg(), api.Graph{Nodes: []api.Node{sample.Node(n)}, NextNode: 6, NextEdge: 1}, n >= 1 && n <= 5)
 	}
 }
 
@@ -79,7 +80,7 @@ func TestNumbersOfEdges(t *testing.T) {
 		wantMayBe(t, "the first edge", looseCfg(), with(loose(), func(g *api.Graph) { g.Edges[0].Id = n }), n >= 1 && n <= 3)
 		wantMayBe(t, "the middle edge", looseCfg(), with(loose(), func(g *api.Graph) { g.Edges[1].Id = n }), n >= 3 && n <= 6)
 		wantMayBe(t, "the last edge", looseCfg(), with(loose(), func(g *api.Graph) { g.Edges[2].Id = n }), n >= 5 && n <= 7)
-		wantMayBe(t, "the only edge", looseCfg(), with(loose(), func(g *api.Graph) { g.Edges = edges(n, 1, 5) }), n >= 1 && n <= 7)
+		wantMayBe(t, "the only edge", looseCfg(), with(loose(), func(g *api.Graph) { g.Edges = sample.Edges(n, 1, 5) }), n >= 1 && n <= 7)
 	}
 }
 
@@ -92,8 +93,8 @@ func TestEndsOfEdges(t *testing.T) {
 			wantMayBe(t, "where an edge goes to", looseCfg(), with(loose(), func(g *api.Graph) { g.Edges[i].To = n }), may)
 		}
 	}
-	wantMayBe(t, "an edge without nodes", looseCfg(), api.Graph{Edges: edges(1, 1, 1), NextNode: 2, NextEdge: 2}, false)
-	wantMayBe(t, "an edge at 0 without nodes", looseCfg(), api.Graph{Edges: edges(1, 0, 0), NextNode: 2, NextEdge: 2}, false)
+	wantMayBe(t, "an edge without nodes", looseCfg(), api.Graph{Edges: sample.Edges(1, 1, 1), NextNode: 2, NextEdge: 2}, false)
+	wantMayBe(t, "an edge at 0 without nodes", looseCfg(), api.Graph{Edges: sample.Edges(1, 0, 0), NextNode: 2, NextEdge: 2}, false)
 }
 
 // P10.1: keys, at the first, the middle and the last node.
@@ -103,10 +104,10 @@ func TestKeysOfNodes(t *testing.T) {
 			l   []api.Pair
 			may bool
 		}{
-			{pairs(1, 1), true}, {pairs(1, 2, 2, 1), true}, {pairs(-2, 0, -1, 0), true}, {pairs(least, 0, greatest, 0), true},
-			{pairs(1, 1, 1, 1), false}, {pairs(1, 1, 1, 2), false}, {pairs(2, 1, 1, 2), false}, {pairs(-1, 0, -2, 0), false},
-			{pairs(0, 0, 0, 0), false}, {pairs(greatest, 0, least, 0), false}, {pairs(least, 0, least, 0), false}, {pairs(greatest, 0, greatest, 0), false},
-			{pairs(1, 1, 2, 2, 2, 3), false}, {pairs(2, 1, 1, 2, 3, 3), false}, {pairs(1, 1, 3, 2, 2, 3), false}, {pairs(1, 1, 1, 2, 3, 3), false}, {pairs(1, 0, 2, 0, 1, 0), false},
+			{sample.Pairs(1, 1), true}, {sample.Pairs(1, 2, 2, 1), true}, {sample.Pairs(-2, 0, -1, 0), true}, {sample.Pairs(least, 0, greatest, 0), true},
+			{sample.Pairs(1, 1, 1, 1), false}, {sample.Pairs(1, 1, 1, 2), false}, {sample.Pairs(2, 1, 1, 2), false}, {sample.Pairs(-1, 0, -2, 0), false},
+			{sample.Pairs(0, 0, 0, 0), false}, {sample.Pairs(greatest, 0, least, 0), false}, {sample.Pairs(least, 0, least, 0), false}, {sample.Pairs(greatest, 0, greatest, 0), false},
+			{sample.Pairs(1, 1, 2, 2, 2, 3), false}, {sample.Pairs(2, 1, 1, 2, 3, 3), false}, {sample.Pairs(1, 1, 3, 2, 2, 3), false}, {sample.Pairs(1, 1, 1, 2, 3, 3), false}, {sample.Pairs(1, 0, 2, 0, 1, 0), false},
 		} {
 			c := looseCfg()
 			c.Props = 9
@@ -128,10 +129,10 @@ func TestHowManyThereAre(t *testing.T) {
 		c.Props = n
 		wantMayBe(t, "three properties", c, loose(), n >= 3)
 		wantMayBe(t, "three properties of the last node", c, with(loose(), func(g *api.Graph) {
-			g.Nodes[0].Pairs, g.Nodes[1].Pairs, g.Nodes[2].Pairs = nil, nil, pairs(1, 1, 2, 2, 3, 3)
+			g.Nodes[0].Pairs, g.Nodes[1].Pairs, g.Nodes[2].Pairs = nil, nil, sample.Pairs(1, 1, 2, 2, 3, 3)
 		}), n >= 3)
 		wantMayBe(t, "a property of each node", c, with(loose(), func(g *api.Graph) {
-			g.Nodes[0].Pairs, g.Nodes[1].Pairs, g.Nodes[2].Pairs = pairs(7, 7), pairs(7, 7), pairs(7, 7)
+			g.Nodes[0].Pairs, g.Nodes[1].Pairs, g.Nodes[2].Pairs = sample.Pairs(7, 7), sample.Pairs(7, 7), sample.Pairs(7, 7)
 		}), n >= 3)
 		c = looseCfg()
 		c.Ids = n
@@ -140,9 +141,9 @@ func TestHowManyThereAre(t *testing.T) {
 		c.EdgeIds = n
 		wantMayBe(t, "numbers up to 7", c, loose(), n >= 7)
 	}
-	wantMayBe(t, "one node more", fullCfg(), with(full(), func(g *api.Graph) { g.Nodes = append(g.Nodes, node(65)) }), false)
-	wantMayBe(t, "one property more", fullCfg(), with(full(), func(g *api.Graph) { g.Nodes[63].Pairs = pairs(1, 1, 2, 2) }), false)
-	wantMayBe(t, "one edge more", fullCfg(), with(full(), func(g *api.Graph) { g.Edges = append(g.Edges, edges(65, 1, 1)...) }), false)
+	wantMayBe(t, "one node more", fullCfg(), with(full(), func(g *api.Graph) { g.Nodes = append(g.Nodes, sample.Node(65)) }), false)
+	wantMayBe(t, "one property more", fullCfg(), with(full(), func(g *api.Graph) { g.Nodes[63].Pairs = sample.Pairs(1, 1, 2, 2) }), false)
+	wantMayBe(t, "one edge more", fullCfg(), with(full(), func(g *api.Graph) { g.Edges = append(g.Edges, sample.Edges(65, 1, 1)...) }), false)
 }
 
 // P10.1: a graph may be for a configuration that may be alone.
@@ -185,13 +186,13 @@ func wantSame(t *testing.T, what string, g, h api.Graph, want bool) {
 func TestSameOfOneNumber(t *testing.T) {
 	for _, g := range []api.Graph{mixed(), loose(), full(), New(), {}} {
 		wantSame(t, "a graph and itself", g, g, true)
-		wantSame(t, "a graph and a copy", g, copied(g), true)
+		wantSame(t, "a graph and a copy", g, sample.CopiedGraph(g), true)
 		for i := range numbers(&g) {
 			for _, by := range []int{1, -1, 1 << 32, -1 << 40, least} {
-				h := copied(g)
+				h := sample.CopiedGraph(g)
 				*numbers(&h)[i] += by
 				wantSame(t, fmt.Sprint("the number ", i), g, h, false)
-				wantSame(t, "what may not be, and a copy", h, copied(h), true)
+				wantSame(t, "what may not be, and a copy", h, sample.CopiedGraph(h), true)
 			}
 		}
 	}
@@ -209,10 +210,10 @@ func TestSameOfLists(t *testing.T) {
 		{"without edges", with(g, func(g *api.Graph) { g.Edges = nil })},
 		{"without the last property", with(g, func(g *api.Graph) { g.Nodes[0].Pairs = g.Nodes[0].Pairs[:2] })},
 		{"without a node's properties", with(g, func(g *api.Graph) { g.Nodes[2].Pairs = nil })},
-		{"with a property that is zero", with(g, func(g *api.Graph) { g.Nodes[1].Pairs = pairs(0, 0) })},
+		{"with a property that is zero", with(g, func(g *api.Graph) { g.Nodes[1].Pairs = sample.Pairs(0, 0) })},
 		{"with a node that is zero", with(g, func(g *api.Graph) { g.Nodes = append(g.Nodes, api.Node{}) })},
 		{"with an edge that is zero", with(g, func(g *api.Graph) { g.Edges = append(g.Edges, api.Edge{}) })},
-		{"with a property at another node", with(g, func(g *api.Graph) { g.Nodes[1].Pairs, g.Nodes[3].Pairs = pairs(1, 1), nil })},
+		{"with a property at another node", with(g, func(g *api.Graph) { g.Nodes[1].Pairs, g.Nodes[3].Pairs = sample.Pairs(1, 1), nil })},
 		{"with nodes in another order", with(g, func(g *api.Graph) { slices.Reverse(g.Nodes) })},
 		{"with edges in another order", with(g, func(g *api.Graph) { slices.Reverse(g.Edges) })},
 		{"with properties in another order", with(g, func(g *api.Graph) { slices.Reverse(g.Nodes[0].Pairs) })},
@@ -223,10 +224,10 @@ func TestSameOfLists(t *testing.T) {
 		})},
 	} {
 		wantSame(t, x.what, g, x.g, false)
-		wantSame(t, x.what+", and a copy", x.g, copied(x.g), true)
+		wantSame(t, x.what+", and a copy", x.g, sample.CopiedGraph(x.g), true)
 	}
-	one := with(g, func(g *api.Graph) { g.Nodes[1].Pairs = pairs(1, 1) })
-	wantSame(t, "a property at one node, or another", one, with(g, func(g *api.Graph) { g.Nodes[3].Pairs = pairs(1, 1) }), false)
+	one := with(g, func(g *api.Graph) { g.Nodes[1].Pairs = sample.Pairs(1, 1) })
+	wantSame(t, "a property at one node, or another", one, with(g, func(g *api.Graph) { g.Nodes[3].Pairs = sample.Pairs(1, 1) }), false)
 	empty := api.Graph{Nodes: []api.Node{}, Edges: []api.Edge{}, NextNode: 1, NextEdge: 1}
 	wantSame(t, "nil and empty lists", New(), empty, true)
 	bare := api.Graph{Nodes: []api.Node{{Id: 1}}, NextNode: 2, NextEdge: 1}

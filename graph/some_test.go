@@ -6,6 +6,7 @@ import (
 	"testing"
 
 	"tendril/api"
+	"tendril/sample"
 )
 
 const (
@@ -16,35 +17,6 @@ const (
 // Numbers that are nobody's in the graphs below, those included that would be somebody's if only some bits were looked at.
 var nobodys = []int{0, -1, -2, -6, 11, 64, 65, 1 << 32, 1<<32 + 1, 1<<32 + 4, -1<<32 + 1, 1<<62 + 1, least, least + 1, least + 4, greatest - 1, greatest}
 
-func pairs(l ...int) []api.Pair {
-	told := []api.Pair{}
-	for i := 0; i+1 < len(l); i += 2 {
-		told = append(told, api.Pair{K: l[i], V: l[i+1]})
-	}
-	return told
-}
-
-func node(id int, l ...int) api.Node {
-	return api.Node{Id: id, Pairs: pairs(l...)}
-}
-
-// Three numbers an edge: its own, where it comes from, where it goes to.
-func edges(l ...int) []api.Edge {
-	told := []api.Edge{}
-	for i := 0; i+2 < len(l); i += 3 {
-		told = append(told, api.Edge{Id: l[i], From: l[i+1], To: l[i+2]})
-	}
-	return told
-}
-
-func ends(l ...int) []api.End {
-	told := []api.End{}
-	for i := 0; i+1 < len(l); i += 2 {
-		told = append(told, api.End{Edge: l[i], Node: l[i+1]})
-	}
-	return told
-}
-
 func mixedCfg() api.Cfg {
 	return api.Cfg{Nodes: 5, Edges: 8, Props: 6, Ids: 7, EdgeIds: 12}
 }
@@ -52,8 +24,8 @@ func mixedCfg() api.Cfg {
 // Numbers that are gone, edges both ways, two from one node to the same other one, edges from a node to itself, and properties, of which 1 and 4 share a key.
 func mixed() api.Graph {
 	return api.Graph{
-		Nodes:    []api.Node{node(1, -3, 5, 0, 0, 9, -1), node(2), node(4, least, greatest, 9, 7), node(6)},
-		Edges:    edges(1, 1, 2, 3, 2, 1, 4, 1, 2, 5, 1, 1, 6, 4, 4, 8, 4, 1, 10, 6, 4),
+		Nodes:    []api.Node{sample.Node(1, -3, 5, 0, 0, 9, -1), sample.Node(2), sample.Node(4, least, greatest, 9, 7), sample.Node(6)},
+		Edges:    sample.Edges(1, 1, 2, 3, 2, 1, 4, 1, 2, 5, 1, 1, 6, 4, 4, 8, 4, 1, 10, 6, 4),
 		NextNode: 7,
 		NextEdge: 11,
 	}
@@ -67,30 +39,14 @@ func fullCfg() api.Cfg {
 func full() api.Graph {
 	g := api.Graph{NextNode: 65, NextEdge: 65}
 	for i := 1; i <= 64; i++ {
-		g.Nodes = append(g.Nodes, node(i, -i, i))
+		g.Nodes = append(g.Nodes, sample.Node(i, -i, i))
 		g.Edges = append(g.Edges, api.Edge{Id: i, From: i, To: 65 - i})
 	}
 	return g
 }
 
-// Written element by element, so that it is not the program's own way.
-func copied(g api.Graph) api.Graph {
-	told := api.Graph{NextNode: g.NextNode, NextEdge: g.NextEdge}
-	for _, n := range g.Nodes {
-		own := api.Node{Id: n.Id}
-		for _, p := range n.Pairs {
-			own.Pairs = append(own.Pairs, p)
-		}
-		told.Nodes = append(told.Nodes, own)
-	}
-	for _, e := range g.Edges {
-		told.Edges = append(told.Edges, e)
-	}
-	return told
-}
-
 func with(g api.Graph, change func(g *api.Graph)) api.Graph {
-	told := copied(g)
+	told := sample.CopiedGraph(g)
 	change(&told)
 	return told
 }

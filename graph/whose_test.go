@@ -5,6 +5,7 @@ import (
 	"testing"
 
 	"tendril/api"
+	"tendril/sample"
 )
 
 // told is all that a call answers, whatever it is.
@@ -38,62 +39,8 @@ func someCalls(c api.Cfg) map[string]func(g api.Graph) told {
 	return calls
 }
 
-// A list with room behind it that is filled: whoever appends to it writes where the test can see it.
-func withRoom[T any](l []T, filled T) []T {
-	roomy := []T{}
-	roomy = append(roomy, l...)
-	roomy = append(roomy, filled, filled, filled)
-	return roomy[:len(l)]
-}
-
-func roomy(g api.Graph) api.Graph {
-	g = copied(g)
-	for i := range g.Nodes {
-		g.Nodes[i].Pairs = withRoom(g.Nodes[i].Pairs, api.Pair{K: 77, V: 77})
-	}
-	g.Nodes = withRoom(g.Nodes, node(77, 77, 77))
-	g.Edges = withRoom(g.Edges, api.Edge{Id: 77, From: 77, To: 77})
-	return g
-}
-
-// The graph with what stands behind its lists, as far as that is its own.
-func whole(g api.Graph) api.Graph {
-	g.Nodes, g.Edges = g.Nodes[:cap(g.Nodes)], g.Edges[:cap(g.Edges)]
-	all := api.Graph{Edges: g.Edges, NextNode: g.NextNode, NextEdge: g.NextEdge}
-	for _, n := range g.Nodes {
-		all.Nodes = append(all.Nodes, api.Node{Id: n.Id, Pairs: n.Pairs[:cap(n.Pairs)]})
-	}
-	return all
-}
-
-func spoilPairs(l []api.Pair) {
-	l = l[:cap(l)]
-	for i := range l {
-		l[i] = api.Pair{K: -88, V: -88}
-	}
-}
-
-func spoilEnds(l []api.End) {
-	l = l[:cap(l)]
-	for i := range l {
-		l[i] = api.End{Edge: -88, Node: -88}
-	}
-}
-
-// Writes into all that can be reached of a graph.
-func spoil(g api.Graph) {
-	nodes, edges := g.Nodes[:cap(g.Nodes)], g.Edges[:cap(g.Edges)]
-	for i := range nodes {
-		spoilPairs(nodes[i].Pairs)
-		nodes[i] = node(-88, -88, -88)
-	}
-	for i := range edges {
-		edges[i] = api.Edge{Id: -88, From: -88, To: -88}
-	}
-}
-
 func copiedTold(x told) told {
-	x.g = copied(x.g)
+	x.g = sample.CopiedGraph(x.g)
 	x.pairs = append([]api.Pair{}, x.pairs...)
 	x.out, x.in = append([]api.End{}, x.out...), append([]api.End{}, x.in...)
 	return x
@@ -110,35 +57,35 @@ func wantSameTold(t *testing.T, what string, got, want told) {
 // R2: what is handed in reads as it did before, and so does what stands behind its lists.
 func TestWhatIsHandedInStays(t *testing.T) {
 	for what, call := range someCalls(mixedCfg()) {
-		g := roomy(mixed())
-		was := copied(whole(g))
+		g := sample.RoomyGraph(mixed())
+		was := sample.WholeGraph(g)
 		call(g)
-		wantGraph(t, "what was handed in to "+what, whole(g), was)
+		wantGraph(t, "what was handed in to "+what, sample.WholeGraph(g), was)
 	}
 }
 
 // R2: what was told does not change when the argument is written into later, nor the other way round.
 func TestWhatIsToldIsNew(t *testing.T) {
 	for what, call := range someCalls(mixedCfg()) {
-		g := roomy(mixed())
+		g := sample.RoomyGraph(mixed())
 		got := call(g)
 		was := copiedTold(got)
-		spoil(g)
+		sample.SpoilGraph(g)
 		wantSameTold(t, what+", behind a write into the graph", got, was)
-		g = roomy(mixed())
-		wasG := copied(whole(g))
+		g = sample.RoomyGraph(mixed())
+		wasG := sample.WholeGraph(g)
 		got = call(g)
-		spoil(got.g)
-		spoilPairs(got.pairs)
-		spoilEnds(got.out)
-		spoilEnds(got.in)
-		wantGraph(t, "the graph, behind a write into what was told of "+what, whole(g), wasG)
+		sample.SpoilGraph(got.g)
+		sample.Spoil(got.pairs, api.Pair{K: -88, V: -88})
+		sample.Spoil(got.out, api.End{Edge: -88, Node: -88})
+		sample.Spoil(got.in, api.End{Edge: -88, Node: -88})
+		wantGraph(t, "the graph, behind a write into what was told of "+what, sample.WholeGraph(g), wasG)
 	}
 }
 
 // R2: of what is told each list has memory of its own, also if nodes that are handed in share theirs.
 func TestListsOfAnAnswerShareNone(t *testing.T) {
-	shared := pairs(1, 1, 2, 2, 3, 3)
+	shared := sample.Pairs(1, 1, 2, 2, 3, 3)
 	g := mixed()
 	for i := range g.Nodes {
 		g.Nodes[i].Pairs = shared[:2]
@@ -147,15 +94,15 @@ func TestListsOfAnAnswerShareNone(t *testing.T) {
 		count := len(call(g).g.Nodes)
 		for i := range count {
 			got := call(g)
-			was := copied(got.g)
-			spoilPairs(got.g.Nodes[i].Pairs)
+			was := sample.CopiedGraph(got.g)
+			sample.Spoil(got.g.Nodes[i].Pairs, api.Pair{K: -88, V: -88})
 			got.g.Nodes[i], was.Nodes[i] = api.Node{}, api.Node{}
 			wantGraph(t, what+", behind a write into one of its lists", got.g, was)
 		}
 	}
-	out, in, _ := Near(api.Graph{Nodes: []api.Node{node(1)}, Edges: edges(1, 1, 1, 2, 1, 1), NextNode: 2, NextEdge: 3}, 1)
-	spoilEnds(out)
-	if fmt.Sprint(in) != fmt.Sprint(ends(1, 1, 2, 1)) {
+	out, in, _ := Near(api.Graph{Nodes: []api.Node{sample.Node(1)}, Edges: sample.Edges(1, 1, 1, 2, 1, 1), NextNode: 2, NextEdge: 3}, 1)
+	sample.Spoil(out, api.End{Edge: -88, Node: -88})
+	if fmt.Sprint(in) != fmt.Sprint(sample.Ends(1, 1, 2, 1)) {
 		t.Errorf("edges to a node are %v, behind a write into those from it", in)
 	}
 }
@@ -163,14 +110,14 @@ func TestListsOfAnAnswerShareNone(t *testing.T) {
 // R2: what one call told another one does not change.
 func TestWhatIsToldTwiceIsNotShared(t *testing.T) {
 	for what, call := range someCalls(mixedCfg()) {
-		g := roomy(mixed())
+		g := sample.RoomyGraph(mixed())
 		first, second := call(g), call(g)
 		was := copiedTold(first)
 		wantSameTold(t, what+", told again", second, was)
-		spoil(first.g)
-		spoilPairs(first.pairs)
-		spoilEnds(first.out)
-		spoilEnds(first.in)
+		sample.SpoilGraph(first.g)
+		sample.Spoil(first.pairs, api.Pair{K: -88, V: -88})
+		sample.Spoil(first.out, api.End{Edge: -88, Node: -88})
+		sample.Spoil(first.in, api.End{Edge: -88, Node: -88})
 		wantSameTold(t, what+", told again and kept", second, was)
 	}
 }
@@ -179,15 +126,15 @@ func TestWhatIsToldTwiceIsNotShared(t *testing.T) {
 func wildGraphs() []api.Graph {
 	long := api.Graph{NextNode: greatest, NextEdge: greatest}
 	for i := range 300 {
-		long.Nodes = append(long.Nodes, node(-i, i, i, i, 1, -i, 2))
+		long.Nodes = append(long.Nodes, sample.Node(-i, i, i, i, 1, -i, 2))
 		long.Edges = append(long.Edges, api.Edge{Id: i % 7, From: -i, To: i})
 	}
 	return []api.Graph{
 		{}, {NextNode: greatest, NextEdge: greatest}, {NextNode: least, NextEdge: least}, {NextNode: -1, NextEdge: 70}, long,
 		{Nodes: []api.Node{{}, {}, {}}, Edges: []api.Edge{{}, {}}},
-		{Nodes: []api.Node{node(4, 9, 9, 9, 9, 1, 1), node(1, 4, 4), node(4), node(1, 4, 4, 4, 4), node(2, least, 0, least, 0)}, Edges: edges(4, 1, 1, 4, 2, 4, 1, 4, 1, 10, 9, 9), NextNode: 2, NextEdge: 1},
-		{Nodes: []api.Node{node(greatest, 1, 1), node(least, 1, 1), node(greatest)}, Edges: edges(greatest, least, greatest, least, greatest, least, 0, 0, 0), NextNode: greatest, NextEdge: least},
-		{Edges: edges(1, 1, 2, 2, 2, 1), NextNode: 3, NextEdge: 3},
+		{Nodes: []api.Node{sample.Node(4, 9, 9, 9, 9, 1, 1), sample.Node(1, 4, 4), sample.Node(4), sample.Node(1, 4, 4, 4, 4), sample.Node(2, least, 0, least, 0)}, Edges: sample.Edges(4, 1, 1, 4, 2, 4, 1, 4, 1, 10, 9, 9), NextNode: 2, NextEdge: 1},
+		{Nodes: []api.Node{sample.Node(greatest, 1, 1), sample.Node(least, 1, 1), sample.Node(greatest)}, Edges: sample.Edges(greatest, least, greatest, least, greatest, least, 0, 0, 0), NextNode: greatest, NextEdge: least},
+		{Edges: sample.Edges(1, 1, 2, 2, 2, 1), NextNode: 3, NextEdge: 3},
 	}
 }
 
@@ -196,7 +143,7 @@ func TestWildGraphs(t *testing.T) {
 	for _, c := range []api.Cfg{mixedCfg(), {}, {Ids: greatest, EdgeIds: greatest}, {Nodes: least, Edges: least, Props: least, Ids: least, EdgeIds: least}} {
 		for what, call := range someCalls(c) {
 			for _, g := range append(wildGraphs(), mixed(), New()) {
-				was := copied(g)
+				was := sample.CopiedGraph(g)
 				first := call(g)
 				wantSameTold(t, what+" of what may not be, once more", call(g), first)
 				wantGraph(t, "what may not be, handed in to "+what, g, was)
@@ -205,6 +152,6 @@ func TestWildGraphs(t *testing.T) {
 	}
 	for _, g := range wildGraphs() {
 		wantErrno(t, "Check of what may not be", Check(fullCfg(), g), api.ErrArg)
-		wantSame(t, "what may not be, and a copy", g, copied(g), true)
+		wantSame(t, "what may not be, and a copy", g, sample.CopiedGraph(g), true)
 	}
 }

@@ -110,9 +110,9 @@ func eachHistory(n int, see func(l []api.Event)) {
 			next := at
 			next[thread]++
 			o := api.Op{Kind: thread + 1, A: at[thread] / 2}
-			e := calls(31*thread, o)
+			e := sample.Called(31*thread, o)
 			if at[thread]%2 == 1 {
-				e = comes(31*thread, o, api.Result{Id: at[thread]})
+				e = sample.Came(31*thread, o, api.Result{Id: at[thread]})
 			}
 			grow(append(l[:len(l):len(l)], e), next)
 		}

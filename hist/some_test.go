@@ -30,16 +30,6 @@ func text(x ...any) string {
 	return fmt.Sprint(x...)
 }
 
-// An event at which a thread calls an operation.
-func calls(thread int, o api.Op) api.Event {
-	return api.Event{Thread: thread, Op: o}
-}
-
-// An event at which a thread's operation comes to a result.
-func comes(thread int, o api.Op, r api.Result) api.Event {
-	return api.Event{Thread: thread, Done: true, Op: o, Result: r}
-}
-
 func fails(e api.Errno) api.Result {
 	return api.Result{Err: e}
 }
@@ -47,20 +37,20 @@ func fails(e api.Errno) api.Result {
 // Four threads, calls that overlap, one inside another one, one behind the other; two are pending.
 func mixed() []api.Event {
 	return []api.Event{
-		calls(63, add),
-		calls(0, set),
-		comes(63, add, api.Result{Id: 1}),
-		calls(63, near),
-		calls(7, get),
-		comes(7, get, api.Result{Pairs: sample.Pairs(7, 5, 9, 9)}),
-		calls(7, get),
-		comes(0, set, fails(api.ErrFull)),
-		calls(5, link),
-		comes(63, near, api.Result{Out: sample.Ends(1, 2, 2, 2), In: sample.Ends(2, 2)}),
-		calls(0, add),
-		comes(7, get, fails(api.ErrNone)),
-		comes(0, add, api.Result{Id: 2}),
-		calls(0, add),
+		sample.Called(63, add),
+		sample.Called(0, set),
+		sample.Came(63, add, api.Result{Id: 1}),
+		sample.Called(63, near),
+		sample.Called(7, get),
+		sample.Came(7, get, api.Result{Pairs: sample.Pairs(7, 5, 9, 9)}),
+		sample.Called(7, get),
+		sample.Came(0, set, fails(api.ErrFull)),
+		sample.Called(5, link),
+		sample.Came(63, near, api.Result{Out: sample.Ends(1, 2, 2, 2), In: sample.Ends(2, 2)}),
+		sample.Called(0, add),
+		sample.Came(7, get, fails(api.ErrNone)),
+		sample.Came(0, add, api.Result{Id: 2}),
+		sample.Called(0, add),
 	}
 }
 

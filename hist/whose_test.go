@@ -7,35 +7,6 @@ import (
 	"tendril/sample"
 )
 
-// The history, with room behind all its lists.
-func roomy(l []api.Event) []api.Event {
-	told := sample.WithRoom(l, calls(77, api.Op{Kind: 77}))
-	for i := range told {
-		told[i].Result = sample.Roomy(told[i].Result)
-	}
-	return told
-}
-
-func wholeResult(r api.Result) string {
-	return text(r.Err, r.Id, r.Pairs[:cap(r.Pairs)], r.Out[:cap(r.Out)], r.In[:cap(r.In)])
-}
-
-// The history, as text, with what stands behind its lists.
-func whole(l []api.Event) string {
-	all := ""
-	for _, e := range l[:cap(l)] {
-		all += text(e.Thread, e.Done, e.Op, wholeResult(e.Result), "; ")
-	}
-	return all
-}
-
-func spoil(l []api.Event) {
-	for _, e := range l[:cap(l)] {
-		sample.SpoilResult(e.Result)
-	}
-	sample.Spoil(l, comes(-88, api.Op{Kind: -88}, api.Result{Id: -88}))
-}
-
 func spoilCalls(l []api.Call) {
 	for _, c := range l[:cap(l)] {
 		sample.SpoilResult(c.Result)
@@ -47,8 +18,8 @@ func spoilCalls(l []api.Call) {
 func someHistories() [][]api.Event {
 	return [][]api.Event{
 		nil, mixed(), mixed()[:6],
-		append(mixed(), calls(64, add)),
-		append(mixed(), comes(9, add, sample.Result())),
+		append(mixed(), sample.Called(64, add)),
+		append(mixed(), sample.Came(9, add, sample.Result())),
 		append(mixed(), api.Event{Thread: 9, Op: add, Result: sample.Result()}),
 	}
 }
@@ -56,12 +27,12 @@ func someHistories() [][]api.Event {
 // R2: what is handed in reads as it did before, and so does what stands behind its lists.
 func TestWhatIsHandedInStays(t *testing.T) {
 	for _, x := range someHistories() {
-		l := roomy(x)
-		was := whole(l)
+		l := sample.RoomyHistory(x)
+		was := text(sample.WholeHistory(l))
 		Check(l)
 		Calls(l)
-		if whole(l) != was {
-			t.Errorf("behind Check and Calls the history is %s; want %s", whole(l), was)
+		if text(sample.WholeHistory(l)) != was {
+			t.Errorf("behind Check and Calls the history is %s; want %s", text(sample.WholeHistory(l)), was)
 		}
 	}
 	told := sample.WithRoom(mixedCalls(), api.Call{Thread: 77})
@@ -74,8 +45,8 @@ func TestWhatIsHandedInStays(t *testing.T) {
 		for _, b := range told {
 			Before(a, b)
 			Same(a, b)
-			if wholeResult(a.Result) != wholeResult(sample.Roomy(a.Result)) {
-				t.Errorf("behind Before and Same the result is %s", wholeResult(a.Result))
+			if text(sample.WholeResult(a.Result)) != text(sample.WholeResult(sample.Roomy(a.Result))) {
+				t.Errorf("behind Before and Same the result is %s", text(sample.WholeResult(a.Result)))
 			}
 		}
 	}
@@ -87,18 +58,18 @@ func TestWhatIsHandedInStays(t *testing.T) {
 // R2: what was told does not change when the argument is written into later, nor the other way round, nor what is told again.
 func TestWhatIsToldIsNew(t *testing.T) {
 	for _, x := range someHistories() {
-		l := roomy(x)
+		l := sample.RoomyHistory(x)
 		first, e := Calls(l)
 		again, _ := Calls(l)
-		was, wasL := text(first), whole(l)
+		was, wasL := text(first), text(sample.WholeHistory(l))
 		if text(again) != was || Check(l) != e {
 			t.Errorf("once more %v, %d; want %s, %d", again, Check(l), was, e)
 		}
 		spoilCalls(first)
-		if text(again) != was || whole(l) != wasL {
-			t.Errorf("behind a write into what was told: %v of %s; want %s of %s", again, whole(l), was, wasL)
+		if text(again) != was || text(sample.WholeHistory(l)) != wasL {
+			t.Errorf("behind a write into what was told: %v of %s; want %s of %s", again, text(sample.WholeHistory(l)), was, wasL)
 		}
-		spoil(l)
+		sample.SpoilHistory(l)
 		if text(again) != was {
 			t.Errorf("behind a write into the history: %v; want %s", again, was)
 		}
@@ -109,7 +80,7 @@ func TestWhatIsToldIsNew(t *testing.T) {
 func TestListsOfAnAnswerShareNone(t *testing.T) {
 	pair, end := sample.Pairs(1, 2, 3, 4, 5, 6), sample.Ends(1, 2, 3, 4, 5, 6)
 	r := api.Result{Pairs: pair, Out: end, In: end[:2]}
-	history := []api.Event{calls(0, get), comes(0, get, r), calls(0, near), calls(9, near), comes(9, near, r), comes(0, near, r)}
+	history := []api.Event{sample.Called(0, get), sample.Came(0, get, r), sample.Called(0, near), sample.Called(9, near), sample.Came(9, near, r), sample.Came(0, near, r)}
 	for i := range 3 {
 		for _, how := range []func(r *api.Result){
 			func(r *api.Result) { sample.Spoil(r.Pairs, api.Pair{K: -88}); r.Pairs = nil },

@@ -9,10 +9,21 @@ func WithRoom[T any](l []T, filled T) []T {
 	return roomy[:len(l)]
 }
 
+// Whole tells a list in memory of its own, with what stands behind it.
+func Whole[T any](l []T) []T {
+	return append([]T{}, l[:cap(l)]...)
+}
+
 // Roomy tells a result with room behind all its lists.
 func Roomy(r api.Result) api.Result {
 	r.Pairs = WithRoom(r.Pairs, api.Pair{K: 77, V: 77})
 	r.Out, r.In = WithRoom(r.Out, api.End{Edge: 77}), WithRoom(r.In, api.End{Node: 77})
+	return r
+}
+
+// WholeResult tells a result in memory of its own, its lists with what stands behind them.
+func WholeResult(r api.Result) api.Result {
+	r.Pairs, r.Out, r.In = Whole(r.Pairs), Whole(r.Out), Whole(r.In)
 	return r
 }
 

@@ -1,4 +1,4 @@
-// Package sample makes results and lists for the tests of several layers; the program itself does not call it.
+// Package sample makes operations, results, graphs and histories for the tests of several layers; the program itself does not call it.
 package sample
 
 import (
